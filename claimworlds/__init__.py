@@ -1,0 +1,1 @@
+"""Claimworlds: a first-order prover by superposition."""

@@ -1,0 +1,70 @@
+"""Literals and clauses."""
+
+from claimworlds.terms import TRUTH, is_atom, is_term, sort_of, variables_of
+
+
+def literal_of(positive, one, two):
+    """The literal of two sides, put in order."""
+    if one == TRUTH or (two != TRUTH and one < two):
+        return (positive, two, one)
+    return (positive, one, two)
+
+
+def opposite_literal(literal):
+    """The literal with the other sign."""
+    return (not literal[0], literal[1], literal[2])
+
+
+def clause_of(literals):
+    """The clause of literals that need not be in order, sorted or different."""
+    ordered = [literal_of(positive, one, two) for positive, one, two in literals]
+    clause = []
+    for literal in sorted(ordered, key=lambda row: (row[1], row[2], row[0])):
+        if not clause or clause[-1] != literal:
+            clause.append(literal)
+    return tuple(clause)
+
+
+def is_clause(vocabulary, value):
+    """True if the value is a clause of the vocabulary."""
+    if not isinstance(value, tuple):
+        return False
+    return all([_has_sides(vocabulary, item) for item in value]) and value == clause_of(value)
+
+
+def _has_sides(vocabulary, value):
+    """True for a triple of True or False and two sides that may stand in one literal, in this order."""
+    if not isinstance(value, tuple) or len(value) != 3 or not (value[0] is True or value[0] is False):
+        return False
+    if value[2] == TRUTH:
+        return value[1] == TRUTH or is_atom(vocabulary, value[1])
+    if not is_term(vocabulary, value[1]) or not is_term(vocabulary, value[2]):
+        return False
+    return sort_of(vocabulary, value[1]) == sort_of(vocabulary, value[2])
+
+
+def clause_variables(clause):
+    """The variables of a clause, each once, in the order of their first occurrences."""
+    found = {}
+    for literal in clause:
+        for variable in variables_of(literal[1]) + variables_of(literal[2]):
+            found[variable] = True
+    return tuple(found)
+
+
+def filled_literals(literals, filling):
+    """The filled literals, each in order, as many as there were and one for each."""
+    return tuple([literal_of(positive, filling(one), filling(two)) for positive, one, two in literals])
+
+
+def filled_clause(clause, filling):
+    """The clause of the filled literals."""
+    return clause_of(filled_literals(clause, filling))
+
+
+def is_tautology(clause):
+    """True if a clause holds by two equal sides or by a literal beside its opposite."""
+    for literal in clause:
+        if literal[0] and (literal[1] == literal[2] or opposite_literal(literal) in clause):
+            return True
+    return False

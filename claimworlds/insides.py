@@ -1,0 +1,143 @@
+"""Clauses inside other clauses, and variants.
+
+The search places the literals of one clause on different literals of the other. It always goes on with a literal
+that has the fewest ways left, and turns back as soon as the places left are too few for the literals left.
+A way is a pair: the index of a literal, and a dict of the terms for variables by which it is reached.
+"""
+
+from claimworlds.fillings import Filling
+from claimworlds.matching import matched
+from claimworlds.terms import is_variable, sort_of
+
+
+def inside(vocabulary, one, two):
+    """A filling by which a clause is inside another one, or None."""
+    if len(one) > len(two):
+        return None
+    rows = _all_ways(one, two)
+    rows = [[way for way in ways if _keeps_sorts(vocabulary, way[1])] for ways in rows]
+    filled = _placed(rows, False)
+    return None if filled is None else Filling(list(filled.items()))
+
+
+def are_variants(one, two):
+    """True if a clause becomes another one by naming its variables anew."""
+    return len(one) == len(two) and _placed(_all_ways(one, two), True) is not None
+
+
+def _all_ways(one, two):
+    """For each literal of a clause the ways to the literals of another one, up to the first one that has none."""
+    rows = []
+    for literal in one:
+        rows.append(_ways(literal, two))
+        if not rows[-1]:
+            break
+    return rows
+
+
+def _ways(literal, clause):
+    """The ways of one literal: its sides may become those of a literal of the clause either way round."""
+    ways = []
+    for place, goal in enumerate(clause):
+        if literal[0] != goal[0]:
+            continue
+        turns = [(goal[1], goal[2])]
+        if goal[1] != goal[2]:
+            turns.append((goal[2], goal[1]))
+        for left, right in turns:
+            filled = matched(literal[1], left, {})
+            if filled is not None:
+                filled = matched(literal[2], right, filled)
+            if filled is not None:
+                ways.append((place, filled))
+    return ways
+
+
+def _placed(rows, is_renaming):
+    """A dict of terms by which there is a way for each row, to different places; None if there is none.
+
+    If `is_renaming` is True, only different variables may stand in the place of different variables.
+    """
+    waiting = [({}, None, rows)]
+    while waiting:
+        filled, taken, rows = waiting.pop()
+        rows = [_ways_left(ways, taken, filled, is_renaming) for ways in rows]
+        if not rows:
+            return filled
+        if _have_room(rows):
+            least = _least_row(rows)
+            rest = rows[:least] + rows[least + 1:]
+            for place, more in reversed(rows[least]):
+                waiting.append((_union(filled, more), place, rest))
+    return None
+
+
+def _ways_left(ways, taken, filled, is_renaming):
+    """The ways that do not lead to a place that is taken and agree with the terms there are."""
+    left = []
+    for place, more in ways:
+        if place != taken and _agree(filled, more):
+            if not is_renaming or _renames(_union(filled, more)):
+                left.append((place, more))
+    return left
+
+
+def _least_row(rows):
+    """The index of a row with the fewest ways."""
+    least = 0
+    for index, ways in enumerate(rows):
+        if len(ways) < len(rows[least]):
+            least = index
+    return least
+
+
+def _have_room(rows):
+    """True if there is a place of its own for each row, whatever the terms of the ways."""
+    holders = {}
+    for index in range(len(rows)):
+        if not _gets_place(rows, index, holders, {}):
+            return False
+    return True
+
+
+def _gets_place(rows, index, holders, seen):
+    """True if a row gets a place, perhaps that of another row which gets a new one."""
+    for place, _ in rows[index]:
+        if place not in seen:
+            seen[place] = True
+            if place not in holders or _gets_place(rows, holders[place], holders, seen):
+                holders[place] = index
+                return True
+    return False
+
+
+def _agree(one, two):
+    """True if two dicts of terms have no variable with two terms."""
+    for variable in two:
+        if variable in one and one[variable] != two[variable]:
+            return False
+    return True
+
+
+def _union(one, two):
+    """The dict with the terms of both."""
+    joined = {variable: one[variable] for variable in one}
+    for variable in two:
+        joined[variable] = two[variable]
+    return joined
+
+
+def _keeps_sorts(vocabulary, filled):
+    """True if each term has the sort of its variable."""
+    return all([sort_of(vocabulary, filled[variable]) == variable[1] for variable in filled])
+
+
+def _renames(filled):
+    """True if different variables of the same sorts stand in the place of the variables."""
+    taken = {}
+    for variable in filled:
+        term = filled[variable]
+        if not is_variable(term) or term[1] != variable[1] or term in taken:
+            return False
+        taken[term] = True
+    return True

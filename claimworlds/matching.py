@@ -1,0 +1,30 @@
+"""Matching: fillings that turn a pattern to a term."""
+
+from claimworlds.fillings import Filling
+from claimworlds.terms import is_variable
+
+
+def match_terms(pattern, term):
+    """The filling of the pattern's variables that makes the term of it, or None."""
+    filled = matched(pattern, term, {})
+    return None if filled is None else Filling(list(filled.items()))
+
+
+def matched(pattern, term, filled):
+    """A dict with the terms of another one, and those of the pattern's variables by which it becomes the term.
+
+    None if there is none. It has an entry for each variable of the pattern, also for those that stay.
+    """
+    found = {variable: filled[variable] for variable in filled}
+    waiting = [(pattern, term)]
+    while waiting:
+        part, wanted = waiting.pop()
+        if is_variable(part):
+            if found.setdefault(part, wanted) != wanted:
+                return None
+        elif part[0] != wanted[0]:
+            return None
+        else:
+            for pair in zip(part[1:], wanted[1:]):
+                waiting.append(pair)
+    return found

@@ -1,0 +1,69 @@
+"""The interface of the document, so far as it is built: where each name is defined, and its parameters."""
+
+import importlib
+import inspect
+import unittest
+
+FUNCTIONS = {
+    "names": ("is_name(value)", "is_variable_name(value)"),
+    "terms": (
+        "is_variable(term)", "is_term(vocabulary, value)", "is_atom(vocabulary, value)", "sort_of(vocabulary, term)",
+        "variables_of(term)", "part_at(term, place)", "put_at(term, place, new)", "inner_places(term)", "size_of(term)",
+    ),
+    "formulas": (
+        "is_formula(vocabulary, value)", "is_sentence(vocabulary, value)", "free_variables(formula)",
+        "denied_formula(formula)",
+    ),
+    "termtexts": ("term_text(term)", "read_term(vocabulary, text)"),
+    "formulatexts": ("formula_text(formula)", "read_sentence(vocabulary, text)"),
+    "booktexts": ("book_text(book)", "read_book(text)"),
+    "fillings": ("fresh_filling(variables, start)",),
+    "matching": ("match_terms(pattern, term)",),
+    "unifying": ("unify_terms(one, two)",),
+    "clauses": (
+        "literal_of(positive, one, two)", "opposite_literal(literal)", "clause_of(literals)", "is_clause(vocabulary, value)",
+        "clause_variables(clause)", "filled_literals(literals, filling)", "filled_clause(clause, filling)",
+        "is_tautology(clause)",
+    ),
+    "insides": ("inside(vocabulary, one, two)", "are_variants(one, two)"),
+}
+CLASSES = {
+    "vocabularies.Vocabulary": (
+        "__init__(self, sorts, functions, predicates)", "arguments(self, name)", "value_sort(self, name)",
+        "extended(self, functions)", "__contains__(self, name)",
+    ),
+    "books.Book": (
+        "__init__(self, vocabulary, axioms)", "sentence(self, name)", "with_axiom(self, name, sentence)",
+        "without(self, name)", "__iter__(self)",
+    ),
+    "fillings.Filling": ("__init__(self, pairs)", "__call__(self, term)", "__rshift__(self, other)"),
+}
+
+
+class TestInterface(unittest.TestCase):
+
+    def check(self, made, form):
+        name, rest = form.split("(")
+        self.assertEqual(f"({rest}", str(inspect.signature(made)), form)
+        self.assertEqual(made.__name__, name)
+
+    def test_functions(self):
+        for module, forms in FUNCTIONS.items():
+            found = importlib.import_module(f"claimworlds.{module}")
+            for form in forms:
+                made = getattr(found, form.split("(")[0])
+                self.check(made, form)
+                self.assertEqual(made.__module__, found.__name__)
+
+    def test_classes(self):
+        for place, forms in CLASSES.items():
+            module, name = place.split(".")
+            found = importlib.import_module(f"claimworlds.{module}")
+            made = getattr(found, name)
+            self.assertEqual(made.__module__, found.__name__)
+            for form in forms:
+                self.check(vars(made)[form.split("(")[0]], form)
+
+
+if __name__ == "__main__":
+    unittest.main()
