@@ -1,11 +1,11 @@
 """Literals and clauses."""
 
-from claimworlds.terms import TRUTH, is_atom, is_term, sort_of, variables_of
+from claimworlds.terms import TRUTH, are_alike, are_same, comes_before, flat_key, is_atom, variables_of
 
 
 def literal_of(positive, one, two):
     """The literal of two sides, put in order."""
-    if one == TRUTH or (two != TRUTH and one < two):
+    if one == TRUTH or (two != TRUTH and comes_before(one, two)):
         return (positive, two, one)
     return (positive, one, two)
 
@@ -18,11 +18,15 @@ def opposite_literal(literal):
 def clause_of(literals):
     """The clause of literals that need not be in order, sorted or different."""
     ordered = [literal_of(positive, one, two) for positive, one, two in literals]
-    clause = []
-    for literal in sorted(ordered, key=lambda row: (row[1], row[2], row[0])):
-        if not clause or clause[-1] != literal:
-            clause.append(literal)
-    return tuple(clause)
+    if len(ordered) < 2:
+        return tuple(ordered)
+    by_keys = {literal_key(literal): literal for literal in ordered}
+    return tuple([by_keys[key] for key in sorted(by_keys)])
+
+
+def literal_key(literal):
+    """A key that equal literals share; the literals of a clause stand in the order of their keys."""
+    return (flat_key(literal[1]), flat_key(literal[2]), literal[0])
 
 
 def is_clause(vocabulary, value):
@@ -38,9 +42,7 @@ def _has_sides(vocabulary, value):
         return False
     if value[2] == TRUTH:
         return value[1] == TRUTH or is_atom(vocabulary, value[1])
-    if not is_term(vocabulary, value[1]) or not is_term(vocabulary, value[2]):
-        return False
-    return sort_of(vocabulary, value[1]) == sort_of(vocabulary, value[2])
+    return are_alike(vocabulary, value[1], value[2])
 
 
 def clause_variables(clause):
@@ -65,6 +67,7 @@ def filled_clause(clause, filling):
 def is_tautology(clause):
     """True if a clause holds by two equal sides or by a literal beside its opposite."""
     for literal in clause:
-        if literal[0] and (literal[1] == literal[2] or opposite_literal(literal) in clause):
+        if literal[0] and are_same(literal[1], literal[2]):
             return True
-    return False
+    keys = {literal_key(literal): True for literal in clause}
+    return len(keys) > len({key[:2]: True for key in keys})

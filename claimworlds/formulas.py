@@ -1,8 +1,11 @@
 """Formulas and sentences."""
 
+from claimworlds.fillings import filled_term
 from claimworlds.names import is_variable_name
-from claimworlds.terms import is_atom, is_term, sort_of, variables_of
+from claimworlds.terms import are_alike, is_atom, variables_of
 
+TRUE = ("true",)
+FALSE = ("false",)
 TRUTH_WORDS = ("true", "false")
 LEAVES = ("atom", "same")
 CONNECTIVES = ("and", "or", "implies", "iff")
@@ -30,7 +33,7 @@ def _is_layer(vocabulary, value):
     if kind == "atom":
         return len(value) == 2 and is_atom(vocabulary, value[1])
     if kind == "same":
-        return len(value) == 3 and _are_alike(vocabulary, value[1], value[2])
+        return len(value) == 3 and are_alike(vocabulary, value[1], value[2])
     if kind == "not":
         return len(value) == 2
     if kind in CONNECTIVES:
@@ -40,19 +43,23 @@ def _is_layer(vocabulary, value):
     return False
 
 
-def _are_alike(vocabulary, one, two):
-    """True if both values are terms of the same sort."""
-    if not is_term(vocabulary, one) or not is_term(vocabulary, two):
-        return False
-    return sort_of(vocabulary, one) == sort_of(vocabulary, two)
-
-
 def inner_formulas(formula):
     """The tuple of the formulas of which a formula is made, from left to right."""
     kind = formula[0]
     if kind in QUANTIFIERS:
         return formula[3:]
     return () if kind in LEAVES else formula[1:]
+
+
+def subformulas(formula):
+    """The list of the formula and all formulas in it: each before those in it, from left to right."""
+    found = []
+    waiting = [formula]
+    while waiting:
+        part = waiting.pop()
+        found.append(part)
+        waiting.extend(inner_formulas(part)[::-1])
+    return found
 
 
 def is_sentence(vocabulary, value):
@@ -99,3 +106,40 @@ def _leaf_variables(leaf):
 def denied_formula(formula):
     """The formula that says the opposite."""
     return ("not", formula)
+
+
+def filled_formula(formula, filled):
+    """The formula with the terms of a dict in the place of the variables that occur free.
+
+    No variable of these terms is bound in the formula.
+    """
+    if not filled:
+        return formula
+    marks = []
+    waiting = [(formula, filled)]
+    while waiting:
+        part, terms = waiting.pop()
+        if part[0] in QUANTIFIERS:
+            terms = {variable: terms[variable] for variable in terms if variable != part[1:3]}
+        inner = inner_formulas(part)
+        if part[0] in LEAVES:
+            marks.append(((part[0],) + tuple([filled_term(term, terms) for term in part[1:]]), 0))
+        else:
+            marks.append((part[:len(part) - len(inner)], len(inner)))
+        for other in inner[::-1]:
+            waiting.append((other, terms))
+    return joined_formula(marks)
+
+
+def joined_formula(marks):
+    """The formula of marks, pairs of the items ahead of the inner formulas and the number of these.
+
+    The mark of each formula stands before those of its inner formulas, and these stand from left to right.
+    """
+    made = []
+    for head, count in reversed(marks):
+        inner = []
+        for _ in range(count):
+            inner.append(made.pop())
+        made.append(head + tuple(inner))
+    return made.pop()

@@ -27,12 +27,12 @@ def _layer_sort(vocabulary, value):
     """The sort of a term or atom, whatever stands in the place of its parts; None if it is neither."""
     if not isinstance(value, tuple) or len(value) == 0 or not isinstance(value[0], str):
         return None
-    if is_variable_name(value[0]):
-        return value[1] if len(value) == 2 and value[1] in vocabulary.sorts else None
     arguments = vocabulary.arguments(value[0])
-    if arguments is None or len(value) != len(arguments) + 1:
-        return None
-    return vocabulary.value_sort(value[0])
+    if arguments is not None:
+        return vocabulary.value_sort(value[0]) if len(value) == len(arguments) + 1 else None
+    if is_variable_name(value[0]) and len(value) == 2 and value[1] in vocabulary.sorts:
+        return value[1]
+    return None
 
 
 def _parts_fit(vocabulary, term):
@@ -57,6 +57,13 @@ def sort_of(vocabulary, term):
     return vocabulary.value_sort(term[0])
 
 
+def are_alike(vocabulary, one, two):
+    """True if two values are terms of the vocabulary of the same sort."""
+    if not is_term(vocabulary, one) or not is_term(vocabulary, two):
+        return False
+    return sort_of(vocabulary, one) == sort_of(vocabulary, two)
+
+
 def subterms(term):
     """The list of the term and all terms in it: each before its parts, the parts from left to right."""
     found = []
@@ -67,6 +74,35 @@ def subterms(term):
         if not is_variable(part):
             waiting.extend(part[:0:-1])
     return found
+
+
+def flat_key(value):
+    """The strings in a term, in an atom or in any tuples of tuples and strings, from left to right.
+
+    Two terms, atoms or formulas are equal if their keys are, and the keys of terms and atoms compare in plain order.
+    Python compares the keys without going into depth, however deep the tuples are nested.
+    """
+    found = []
+    waiting = [value]
+    while waiting:
+        item = waiting.pop()
+        if isinstance(item, str):
+            found.append(item)
+        else:
+            waiting.extend(item[::-1])
+    return tuple(found)
+
+
+def are_same(one, two):
+    """True if two terms, atoms or truths are equal."""
+    return one[0] == two[0] and flat_key(one) == flat_key(two)
+
+
+def comes_before(one, two):
+    """True if the first one of two terms, atoms or truths comes before the other one in plain order."""
+    if one[0] != two[0]:
+        return one[0] < two[0]
+    return flat_key(one) < flat_key(two)
 
 
 def variables_of(term):

@@ -7,8 +7,9 @@ from claimworlds.clauses import (
     clause_of, clause_variables, filled_clause, filled_literals, is_clause, is_tautology, literal_of, opposite_literal,
 )
 from claimworlds.fillings import Filling
+from claimworlds.terms import size_of
 from claimworlds.vocabularies import Vocabulary
-from samples import E, GRAPH, LEAF, LOOP, ROOT, TRUTH, X, Y, clause, dark, join, lit, next_of, other, same
+from samples import E, GRAPH, LEAF, LOOP, ROOT, TRUTH, X, Y, clause, dark, deep_term, join, lit, next_of, other, same
 
 RAIN = (True, ("rain",), TRUTH)
 DRY = (False, ("rain",), TRUTH)
@@ -71,6 +72,18 @@ class TestClauses(unittest.TestCase):
         ):
             self.assertEqual(clause_of([large, small]), (small, large))
             self.assertEqual(clause_of([small, large, small]), (small, large))
+
+    def test_deep_terms(self):
+        """The lines of papers may be far deeper than what is passed, and are put in order all the same."""
+        deep = deep_term(3000)
+        for literal in (literal_of(True, deep, deep_term(3001)), literal_of(True, deep_term(3001), deep)):
+            self.assertEqual([size_of(side) for side in literal[1:]], [3001, 3002])
+        made = clause_of([lit(deep_term(3001)), lit(deep), dark(deep_term(3000)), lit(deep_term(3000))])
+        self.assertEqual([(literal[0], size_of(literal[1])) for literal in made], [(True, 3003), (False, 3002), (True, 3002)])
+        self.assertIs(is_tautology(made), True)
+        self.assertIs(is_tautology(made[:2]), False)
+        self.assertIs(is_tautology(((True, deep_term(3000), deep),)), True)
+        self.assertIs(is_clause(GRAPH, made), True)
 
     def test_all_orders_give_one_clause(self):
         literals = [lit(X), dark(X), same(X, Y), other(X, Y), RAIN]

@@ -26,6 +26,12 @@ FUNCTIONS = {
         "is_tautology(clause)",
     ),
     "insides": ("inside(vocabulary, one, two)", "are_variants(one, two)"),
+    "clausetexts": ("clause_text(clause)", "read_clause(vocabulary, text)"),
+    "inwards": ("inward_formula(formula)",),
+    "narrowing": ("wide_rows(formula)", "deep_rows(formula)", "narrowed_formula(formula)"),
+    "witnesses": ("witness_form(formula, variables, witnesses)",),
+    "clauseforms": ("clause_form(vocabulary, sentences)",),
+    "expanding": ("expanded_world(form, world)",),
 }
 CLASSES = {
     "vocabularies.Vocabulary": (
@@ -37,6 +43,11 @@ CLASSES = {
         "without(self, name)", "__iter__(self)",
     ),
     "fillings.Filling": ("__init__(self, pairs)", "__call__(self, term)", "__rshift__(self, other)"),
+    "worlds.World": (
+        "__init__(self, vocabulary, sizes, tables)", "size(self, sort)", "value(self, term, things)", "holds(self, formula, things)",
+        "literal_holds(self, literal, things)", "clause_holds(self, clause, things)", "break_of(self, clause)",
+    ),
+    "clauseforms.ClauseForm": (),
 }
 
 

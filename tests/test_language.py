@@ -15,11 +15,13 @@ NODES = """
     Module FunctionDef ClassDef arguments arg Return Assign AugAssign For While If Expr Raise Try ExceptHandler ImportFrom
     alias Break Continue Delete BoolOp BinOp UnaryOp IfExp Dict ListComp DictComp Compare Call FormattedValue JoinedStr
     Constant Attribute Subscript Name List Tuple Slice Load Store Del comprehension Add Sub USub And Or Not Eq NotEq Lt LtE
-    Gt GtE Is IsNot In NotIn Lambda keyword
+    Gt GtE Is IsNot In NotIn Mult Yield
 """.split()
-BUILTINS = "len range enumerate zip sorted reversed str list tuple isinstance iter all any ValueError".split()
+BUILTINS = """
+    len range enumerate zip sorted reversed str int bool list tuple isinstance iter all any max sum ValueError
+""".split()
 METHODS = """
-    append endswith extend get index items join partition pop setdefault split startswith
+    append endswith extend get index items join partition pop setdefault split startswith values
 """.split()
 DOUBLE = ("__init__", "__contains__", "__call__", "__iter__", "__rshift__")
 AT_ONCE = ("zip", "enumerate", "reversed", "range")
@@ -98,7 +100,8 @@ class TestLanguage(unittest.TestCase):
         for node, where in self.each():
             self.assertIn(type(node).__name__, NODES, where)
             if isinstance(node, (ast.FunctionDef, ast.ClassDef)):
-                self.assertEqual(node.decorator_list, [], where)
+                self.assertIn([ast.unparse(found) for found in node.decorator_list], ([], ["classmethod"]), where)
+                self.assertFalse(node.decorator_list and isinstance(node, ast.ClassDef), where)
             if isinstance(node, ast.Constant):
                 self.assertNotIsInstance(node.value, (float, bytes, complex), where)
             if isinstance(node, ast.Compare) and any(isinstance(sign, (ast.Is, ast.IsNot)) for sign in node.ops):
@@ -157,7 +160,7 @@ class TestLanguage(unittest.TestCase):
                 if name is not None:
                     self.assertFalse(name in own or name in dir(builtins) or name in NO_NAMES, f"{where} {name}")
                 if isinstance(node, ast.Name) and node.id in dir(builtins) and node.id not in own:
-                    self.assertIn(node.id, BUILTINS + ["super"], where)
+                    self.assertIn(node.id, BUILTINS + ["super", "classmethod"], where)
                 if isinstance(node, ast.FunctionDef) and node.name.startswith("__"):
                     self.assertIn(node.name, DOUBLE, where)
                 if isinstance(node, ast.Attribute) and isinstance(node.ctx, ast.Store):
@@ -168,6 +171,40 @@ class TestLanguage(unittest.TestCase):
         for node, where in self.each():
             if isinstance(node, ast.Call) and isinstance(node.func, ast.Attribute):
                 self.assertIn(node.func.attr, METHODS + own, where)
+
+    def test_class_methods(self):
+        """A class method calls `cls`, and does nothing else with it; its name is used for nothing else."""
+        made = [node.name for node, _ in self.each() if getattr(node, "decorator_list", None)]
+        defined = [node.name for node, _ in self.each() if isinstance(node, ast.FunctionDef)]
+        for name in made:
+            self.assertEqual(defined.count(name), 1)
+        for node, where in self.each():
+            if isinstance(node, ast.Attribute):
+                self.assertFalse(isinstance(node.ctx, ast.Store) and node.attr in made, where)
+            if isinstance(node, ast.FunctionDef) and node.name in made:
+                called = [inner.func for inner in ast.walk(node) if isinstance(inner, ast.Call)]
+                for inner in ast.walk(node):
+                    if isinstance(inner, ast.Name) and inner.id == "cls":
+                        self.assertIn(inner, called, where)
+
+    def test_generators(self):
+        """A `yield` is a statement of its own, and no call of a generator stands outside of the head of a loop."""
+        generators = []
+        statements = 0
+        yields = 0
+        for node, _ in self.each():
+            if isinstance(node, ast.FunctionDef) and any(isinstance(inner, ast.Yield) for inner in ast.walk(node)):
+                self.assertNotIn(node.name, generators)
+                generators.append(node.name)
+            statements += isinstance(node, ast.Expr) and isinstance(node.value, ast.Yield)
+            yields += isinstance(node, ast.Yield)
+        self.assertEqual(statements, yields)
+        for file in FILES:
+            tree = tree_of(file)
+            heads = [node.iter for node in ast.walk(tree) if isinstance(node, ast.For)]
+            for node in ast.walk(tree):
+                if isinstance(node, ast.Call) and getattr(node.func, "id", "") in generators:
+                    self.assertIn(node, heads, f"{file.name}:{node.lineno}")
 
     def test_errors(self):
         own = bound_names(tree_of(FOLDER / "errors.py"))

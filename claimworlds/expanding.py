@@ -1,0 +1,42 @@
+"""Worlds with tables for the witnesses of a clause form."""
+
+from claimworlds.worlds import World
+
+
+def expanded_world(form, world):
+    """The world of the form's vocabulary that has a table for each witness, too."""
+    for witness in form.witnesses:
+        world = _with_witness(world, witness)
+    return World(form.vocabulary, world.sizes, world.tables)
+
+
+def _with_witness(world, witness):
+    """A world with the table of one witness more, behind those of the other functions."""
+    name, guides, variable, formula = witness
+    sorts = tuple([guide[1] for guide in guides])
+    table = []
+    for chosen in _all_things([world.size(sort) for sort in sorts]):
+        things = {guide: thing for guide, thing in zip(guides, chosen)}
+        table.append(_least_thing(world, formula, variable, things))
+    vocabulary = world.vocabulary.extended([(name, sorts, variable[1])])
+    count = len(world.vocabulary.functions)
+    tables = world.tables[:count] + (tuple(table),) + world.tables[count:]
+    return World(vocabulary, world.sizes, tables)
+
+
+def _all_things(sizes):
+    """The list of the tuples of things of sorts with these sizes, in ascending order."""
+    rows = [()]
+    for size in sizes:
+        rows = [row + (thing,) for row in rows for thing in range(size)]
+    return rows
+
+
+def _least_thing(world, formula, variable, things):
+    """The least thing for which a formula holds if a variable stands for it, or 0."""
+    for thing in range(world.size(variable[1])):
+        more = {other: things[other] for other in things}
+        more[variable] = thing
+        if world.holds(formula, more):
+            return thing
+    return 0
