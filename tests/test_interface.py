@@ -32,6 +32,13 @@ FUNCTIONS = {
     "witnesses": ("witness_form(formula, variables, witnesses)",),
     "clauseforms": ("clause_form(vocabulary, sentences)",),
     "expanding": ("expanded_world(form, world)",),
+    "groundterms": ("ground_terms(vocabulary, order, most, *, atoms=False)",),
+    "selecting": ("selected_index(order, selection, clause)",),
+    "checking": (
+        "all_lines(vocabulary, given, paper)", "last_line(vocabulary, given, paper)", "is_refutation(vocabulary, given, paper)",
+    ),
+    "walking": ("walk(vocabulary, given, paper, world)",),
+    "covering": ("all_leaves(vocabulary, given, paper)", "is_cover(vocabulary, order, given, paper, goal)"),
 }
 CLASSES = {
     "vocabularies.Vocabulary": (
@@ -48,6 +55,11 @@ CLASSES = {
         "literal_holds(self, literal, things)", "clause_holds(self, clause, things)", "break_of(self, clause)",
     ),
     "clauseforms.ClauseForm": (),
+    "orders.Order": (
+        "__init__(self, names, weights)", "weight(self, term)", "compare(self, one, two)", "compare_literals(self, one, two)",
+        "compare_clauses(self, ones, twos)",
+    ),
+    "papers.Paper": ("__init__(self, steps)",),
 }
 
 
@@ -74,6 +86,11 @@ class TestInterface(unittest.TestCase):
             self.assertEqual(made.__module__, found.__name__)
             for form in forms:
                 self.check(vars(made)[form.split("(")[0]], form)
+
+    def test_class_methods(self):
+        order = importlib.import_module("claimworlds.orders").Order
+        self.assertIsInstance(vars(order)["plain"], classmethod)
+        self.assertEqual(str(inspect.signature(order.plain)), "(vocabulary)")
 
 
 if __name__ == "__main__":
