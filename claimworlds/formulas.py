@@ -109,25 +109,19 @@ def denied_formula(formula):
 
 
 def filled_formula(formula, filled):
-    """The formula with the terms of a dict in the place of the variables that occur free.
+    """The formula with the terms of a dict in the place of variables.
 
-    No variable of these terms is bound in the formula.
+    Neither these variables nor those of the terms are bound in the formula.
     """
     if not filled:
         return formula
     marks = []
-    waiting = [(formula, filled)]
-    while waiting:
-        part, terms = waiting.pop()
-        if part[0] in QUANTIFIERS:
-            terms = {variable: terms[variable] for variable in terms if variable != part[1:3]}
-        inner = inner_formulas(part)
+    for part in subformulas(formula):
         if part[0] in LEAVES:
-            marks.append(((part[0],) + tuple([filled_term(term, terms) for term in part[1:]]), 0))
+            marks.append((part[:1] + tuple([filled_term(term, filled) for term in part[1:]]), 0))
         else:
-            marks.append((part[:len(part) - len(inner)], len(inner)))
-        for other in inner[::-1]:
-            waiting.append((other, terms))
+            count = len(inner_formulas(part))
+            marks.append((part[:len(part) - count], count))
     return joined_formula(marks)
 
 

@@ -14,18 +14,26 @@ JOINING_WORDS = ("and", "or")
 
 def wide_rows(formula):
     """Rows of pieces: the formula says that in each row at least one piece holds."""
-    return _rows_of(formula, "and", FALSE)
+    pieces, rows = _numbered_rows(formula, "and", FALSE)
+    return _rows_of_pieces(pieces, rows)
 
 
 def deep_rows(formula):
     """Rows of pieces: the formula says that in at least one row all pieces hold."""
-    return _rows_of(formula, "or", TRUE)
+    pieces, rows = _numbered_rows(formula, "or", TRUE)
+    return _rows_of_pieces(pieces, rows)
 
 
-def _rows_of(formula, collector, blank):
-    """The rows of a formula. Those of its parts are all kept at a collector, and combined at the other connective.
+def _rows_of_pieces(pieces, rows):
+    """The tuple of the rows with the pieces in the place of their numbers."""
+    return tuple([tuple([pieces[number] for number in row]) for row in rows])
 
-    The formula that has one row without pieces is `blank`. While the rows are made, numbers stand for the pieces.
+
+def _numbered_rows(formula, collector, blank):
+    """The list of the different pieces of a formula, and the list of its rows, in which numbers stand for the pieces.
+
+    The rows of two parts are all kept at a collector, and combined at the other connective. The formula that has one
+    row without pieces is `blank`.
     """
     pieces = []
     numbers = {}
@@ -39,7 +47,7 @@ def _rows_of(formula, collector, blank):
             made.append([()] if part == blank else [])
         else:
             made.append([(_piece_number(part, pieces, numbers),)])
-    return tuple([tuple([pieces[number] for number in row]) for row in made.pop()])
+    return (pieces, made.pop())
 
 
 def _outer_parts(formula):
@@ -98,33 +106,29 @@ def _narrowed_quantifier(quantified, inner):
     """A quantified formula with its quantifier moved into the narrowed formula in it."""
     if quantified[0] == "all":
         whole = TRUE
-        for row in wide_rows(inner):
-            whole = both(whole, _narrowed_row(quantified, row, "or", FALSE))
+        for part in _narrowed_rows(quantified, inner, "and", "or", FALSE):
+            whole = both(whole, part)
         return whole
     whole = FALSE
-    for row in deep_rows(inner):
-        whole = either(whole, _narrowed_row(quantified, row, "and", TRUE))
+    for part in _narrowed_rows(quantified, inner, "or", "and", TRUE):
+        whole = either(whole, part)
     return whole
 
 
-def _narrowed_row(quantified, row, connective, blank):
-    """The formula of a row: the pieces without the variable, then the quantifier before those with it."""
-    word, name, sort = quantified[:3]
-    with_it = []
-    without_it = []
-    for piece in row:
-        if (name, sort) in free_variables(piece):
-            with_it.append(piece)
-        else:
-            without_it.append(piece)
-    if not row:
-        return blank
-    if not with_it:
-        return _chained(connective, without_it)
-    narrow = (word, name, sort, _chained(connective, with_it))
-    if not without_it:
-        return narrow
-    return (connective, _chained(connective, without_it), narrow)
+def _narrowed_rows(quantified, inner, collector, connective, blank):
+    """The list of the formulas of the rows: the pieces without the variable, then the quantifier before the others."""
+    pieces, rows = _numbered_rows(inner, collector, blank)
+    has_variable = [quantified[1:3] in free_variables(piece) for piece in pieces]
+    made = []
+    for row in rows:
+        parts = [pieces[number] for number in row if not has_variable[number]]
+        if parts:
+            parts = [_chained(connective, parts)]
+        bound = [pieces[number] for number in row if has_variable[number]]
+        if bound:
+            parts.append(quantified[:3] + (_chained(connective, bound),))
+        made.append(_chained(connective, parts) if parts else blank)
+    return made
 
 
 def _chained(connective, pieces):

@@ -155,6 +155,7 @@ class TestClauses(unittest.TestCase):
             (clause(lit(X), dark(Y)), False), (clause(same(X, Y), other(Y, X)), True), (clause(same(X, Y), other(X, ROOT)), False),
             (clause(RAIN, lit(X), same(next_of(ROOT), next_of(ROOT)), dark(Y)), True),
             (clause(lit(ROOT), lit(X), DRY, other(ROOT, ROOT), same(X, Y)), False),
+            (clause(same(ROOT, X), other(ROOT, LEAF)), False), (clause(same(ROOT, X), same(ROOT, LEAF), other(LEAF, ROOT)), True),
         ):
             self.assertIs(is_tautology(value), wanted, value)
         self.assertIs(is_tautology(clause=()), False)

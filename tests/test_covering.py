@@ -186,6 +186,25 @@ class TestCovers(unittest.TestCase):
         self.covers(False, given, steps, (p(f(A)),), heavy)
         self.covers(True, given, [("given", 0), ("given", 1), ("replace", 0, 0, False, 1, 0, (0, 0))], (p(B),), heavy)
 
+    def test_a_leaf_of_one_line_of_a_replace_step(self):
+        given = clauses("b = a | f(f(a)) != f(f(a))", "p(a)", "p(b)")
+        self.assertEqual([literal[0] for literal in given[0]], [True, False])
+        steps = [("given", 0), ("drop", 0, 1), ("given", 1), ("replace", 1, 0, True, 2, 0, (0, 0))]
+        # Only the leaf of line i is above.
+        self.assertEqual([PLAIN.compare_clauses(leaf, (p(B),)) for leaf in given[:2]], ["above", "below"])
+        self.covers(False, given, steps, (p(B),))
+        # Only the leaf of line j is above.
+        given = clauses("b = a", "p(b)")
+        steps = [("given", 0), ("given", 1), ("replace", 0, 0, False, 1, 0, (0, 0))]
+        self.assertEqual([PLAIN.compare_clauses(leaf, (p(A),)) for leaf in given], ["below", "above"])
+        self.covers(False, given, steps, (p(A),))
+
+    def test_lines_that_are_used_again_and_again(self):
+        given = [((True, A, A),)]
+        steps = [("given", 0)] + [("replace", number, 0, False, number, 0, (0,)) for number in range(200)]
+        self.covers(True, given, steps, given[0])
+        self.assertEqual(all_leaves(LAND, given, Paper(steps)), ((given[0],),) * 201)
+
     def test_a_leaf_that_is_open(self):
         given = clauses("p(X:s)", "not p(X:s) | r", "r | p(Y:s)")
         self.covers(True, given, [("given", 0), ("fill", 0, ((X, f(Y)),))], (p(f(Y)),))

@@ -169,6 +169,9 @@ class TestCompare(unittest.TestCase):
         self.compares(PLAIN, "f(g(a,b))", "f(g(b,a))", "below")
         self.compares(PLAIN, "g(f(f(b)),a)", "g(f(f(a)),b)", "above")
         self.compares(PLAIN, "g(X:s,b)", "g(X:s,a)", "above")
+        # The parts with the first difference are compared by themselves: there the weight of f(b) and of a counts.
+        self.compares(PLAIN, "g(g(a,f(b)),b)", "g(g(b,a),f(b))", "above")
+        self.compares(PLAIN, "g(g(X:s,f(b)),b)", "g(g(Y:s,a),f(b))", "open")
 
     def test_the_first_difference_but_a_variable_that_occurs_too_often(self):
         self.compares(PLAIN, "g(X:s,Y:s)", "g(Y:s,X:s)", "open")
