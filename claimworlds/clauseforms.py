@@ -1,11 +1,10 @@
 """Clause forms: the clauses of sentences, with the functions that were made for them."""
 
-from claimworlds.clauses import clause_of, is_tautology, literal_key
+from claimworlds.clauses import clause_of, is_tautology, literal_key, literal_of_piece
 from claimworlds.errors import NotSentence
 from claimworlds.formulas import is_sentence
 from claimworlds.inwards import inward_formula
 from claimworlds.narrowing import narrowed_formula, wide_rows
-from claimworlds.terms import TRUTH
 from claimworlds.witnesses import witness_form
 
 
@@ -32,7 +31,7 @@ def clause_form(vocabulary, sentences):
         formula, more = witness_form(narrow, 0, len(witnesses))
         witnesses.extend(more)
         for row in wide_rows(formula):
-            clause = clause_of([_literal_of_piece(piece) for piece in row])
+            clause = clause_of([literal_of_piece(piece) for piece in row])
             key = tuple([literal_key(literal) for literal in clause])
             if not is_tautology(clause) and key not in clauses:
                 clauses[key] = clause
@@ -41,15 +40,6 @@ def clause_form(vocabulary, sentences):
     constants = _missing_constants(vocabulary)
     vocabulary = vocabulary.extended([_function_of(witness) for witness in constants])
     return ClauseForm(vocabulary, tuple(clauses.values()), tuple(origins), tuple(witnesses + constants))
-
-
-def _literal_of_piece(piece):
-    """The literal of an atom, an equation or a denied one."""
-    positive = piece[0] != "not"
-    leaf = piece if positive else piece[1]
-    if leaf[0] == "atom":
-        return (positive, leaf[1], TRUTH)
-    return (positive, leaf[1], leaf[2])
 
 
 def _function_of(witness):

@@ -10,6 +10,13 @@ def literal_of(positive, one, two):
     return (positive, one, two)
 
 
+def literal_of_piece(piece):
+    """The literal of a formula that is an atom, an equation or a denied one of these; it need not be in order."""
+    positive = piece[0] != "not"
+    leaf = piece if positive else piece[1]
+    return (positive, leaf[1], TRUTH if leaf[0] == "atom" else leaf[2])
+
+
 def opposite_literal(literal):
     """The literal with the other sign."""
     return (not literal[0], literal[1], literal[2])

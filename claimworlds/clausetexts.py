@@ -1,10 +1,10 @@
 """Texts of literals and clauses."""
 
-from claimworlds.clauses import clause_of
-from claimworlds.errors import BadText, WrongSort
-from claimworlds.formulareading import EQUATION_SIGNS
-from claimworlds.termreading import built_atom, built_term, term_heads
-from claimworlds.terms import TRUTH, sort_of
+from claimworlds.clauses import clause_of, literal_of_piece
+from claimworlds.errors import BadText
+from claimworlds.leafreading import EQUATION_SIGNS, built_leaf, leaf_mark
+from claimworlds.termreading import term_heads
+from claimworlds.terms import TRUTH
 from claimworlds.termtexts import term_text
 from claimworlds.tokens import Tokens
 
@@ -34,10 +34,7 @@ def read_clause(vocabulary, text):
 
 
 def _clause_marks(tokens):
-    """Round 2: the marks of the literals of a clause that takes all tokens.
-
-    A mark is a triple: the word or sign of the literal ("atom" for an atom alone), and the heads of its two sides.
-    """
+    """Round 2: the marks of the literals of a clause that takes all tokens."""
     marks = []
     if tokens.next_kind() == EMPTY_TEXT:
         tokens.take()
@@ -51,36 +48,29 @@ def _clause_marks(tokens):
 
 
 def _literal_mark(tokens):
-    """Round 2: the mark of one literal."""
+    """Round 2: "not" with the mark of the atom behind it, or "" with that of an atom or an equation.
+
+    For the truth it is the sign between its two sides, with None.
+    """
     if tokens.next_kind() == "not":
         tokens.take()
         if tokens.next_kind() != "name":
             raise BadText(tokens.next_column())
-        return ("not", term_heads(tokens, True), None)
-    if tokens.next_kind() == TRUTH[0]:
-        tokens.take()
-        if tokens.next_kind() not in EQUATION_SIGNS:
-            raise BadText(tokens.next_column())
-        sign = tokens.take()[0]
-        tokens.want(TRUTH[0])
-        return (sign, None, None)
-    left = term_heads(tokens, True)
-    if tokens.next_kind() in EQUATION_SIGNS:
-        return (tokens.take()[0], left, term_heads(tokens, True))
-    if left[0].is_variable:
+        return ("not", ("atom", term_heads(tokens, True)))
+    if tokens.next_kind() != TRUTH[0]:
+        return ("", leaf_mark(tokens, True))
+    tokens.take()
+    if tokens.next_kind() not in EQUATION_SIGNS:
         raise BadText(tokens.next_column())
-    return ("atom", left, None)
+    sign = tokens.take()[0]
+    tokens.want(TRUTH[0])
+    return (sign, None)
 
 
 def _built_literal(vocabulary, mark):
     """Round 3: the literal with this mark."""
-    kind, left, right = mark
-    if left is None:
-        return (kind == "=", TRUTH, TRUTH)
-    if right is None:
-        return (kind == "atom", built_atom(vocabulary, left, {}), TRUTH)
-    one = built_term(vocabulary, left, {})
-    two = built_term(vocabulary, right, {})
-    if sort_of(vocabulary, one) != sort_of(vocabulary, two):
-        raise WrongSort(right[0].column)
-    return (kind == "=", one, two)
+    word, leaf = mark
+    if leaf is None:
+        return (word == "=", TRUTH, TRUTH)
+    piece = built_leaf(vocabulary, leaf, {})
+    return literal_of_piece(("not", piece) if word == "not" else piece)

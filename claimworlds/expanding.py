@@ -1,5 +1,6 @@
 """Worlds with tables for the witnesses of a clause form."""
 
+from claimworlds.dicts import with_entry
 from claimworlds.worlds import World
 
 
@@ -35,8 +36,6 @@ def _all_things(sizes):
 def _least_thing(world, formula, variable, things):
     """The least thing for which a formula holds if a variable stands for it, or 0."""
     for thing in range(world.size(variable[1])):
-        more = {other: things[other] for other in things}
-        more[variable] = thing
-        if world.holds(formula, more):
+        if world.holds(formula, with_entry(things, variable, thing)):
             return thing
     return 0

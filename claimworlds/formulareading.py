@@ -4,13 +4,11 @@ Round 2 makes a list of marks in the order of the text: the brackets, words and 
 the leaves with the heads of their terms. Round 3 goes through the marks and puts the sentence together.
 """
 
-from claimworlds.errors import BadText, NameBound, UnknownName, WrongSort
+from claimworlds.errors import BadText, NameBound, UnknownName
 from claimworlds.formulas import CONNECTIVES, QUANTIFIERS, TRUTH_WORDS
-from claimworlds.termreading import built_atom, built_term, term_heads
-from claimworlds.terms import sort_of
+from claimworlds.leafreading import built_leaf, leaf_mark
 
 STRENGTHS = {"iff": 1, "implies": 2, "or": 3, "and": 4, "not": 5}
-EQUATION_SIGNS = ("=", "!=")
 
 
 def formula_marks(tokens):
@@ -40,7 +38,7 @@ def _read_operand(tokens, marks):
         elif kind == "not" or kind == "(":
             marks.append((tokens.take()[0],))
         else:
-            marks.append(_leaf_mark(tokens))
+            marks.append(tokens.take()[:1] if kind in TRUTH_WORDS else leaf_mark(tokens, False))
             return opened
         if kind == "(":
             opened += 1
@@ -54,18 +52,6 @@ def _quantifier_mark(tokens):
     sort = tokens.want("name")
     tokens.want(".")
     return (word, name, sort)
-
-
-def _leaf_mark(tokens):
-    """A word of truth, an atom or an equation, with the heads of its terms."""
-    if tokens.next_kind() in TRUTH_WORDS:
-        return (tokens.take()[0],)
-    left = term_heads(tokens, False)
-    if tokens.next_kind() in EQUATION_SIGNS:
-        return (tokens.take()[0], left, term_heads(tokens, False))
-    if left[0].is_variable:
-        raise BadText(tokens.next_column())
-    return ("atom", left)
 
 
 class FormulaBuilder:
@@ -89,7 +75,7 @@ class FormulaBuilder:
         elif kind == "(":
             self.waiting.append(mark)
         else:
-            self.formulas.append(self.leaf(mark))
+            self.formulas.append(mark if kind in TRUTH_WORDS else built_leaf(self.vocabulary, mark, self.bound))
 
     def add_quantifier(self, mark):
         """Binds a variable name until the quantifier ends."""
@@ -124,19 +110,6 @@ class FormulaBuilder:
             self.formulas.append(mark + (self.formulas.pop(), right))
         else:
             self.formulas.append(mark + (right,))
-
-    def leaf(self, mark):
-        """The formula of a word of truth, an atom or an equation."""
-        if mark[0] in TRUTH_WORDS:
-            return mark
-        if mark[0] == "atom":
-            return ("atom", built_atom(self.vocabulary, mark[1], self.bound))
-        one = built_term(self.vocabulary, mark[1], self.bound)
-        two = built_term(self.vocabulary, mark[2], self.bound)
-        if sort_of(self.vocabulary, one) != sort_of(self.vocabulary, two):
-            raise WrongSort(mark[2][0].column)
-        equation = ("same", one, two)
-        return equation if mark[0] == "=" else ("not", equation)
 
     def whole(self):
         """The formula of all marks."""

@@ -1,5 +1,6 @@
 """Witness forms: formulas without quantifiers, with witnesses for the things of which there are some."""
 
+from claimworlds.dicts import with_entry
 from claimworlds.formulas import CONNECTIVES, filled_formula, free_variables, joined_formula
 
 
@@ -21,9 +22,9 @@ class WitnessMaker:
         while waiting:
             part, filled = waiting.pop()
             if part[0] == "all":
-                waiting.append((part[3], _with_term(filled, part[1:3], self.next_variable(part[2]))))
+                waiting.append((part[3], with_entry(filled, part[1:3], self.next_variable(part[2]))))
             elif part[0] == "some":
-                waiting.append((part[3], _with_term(filled, part[1:3], self.next_witness(part, filled))))
+                waiting.append((part[3], with_entry(filled, part[1:3], self.next_witness(part, filled))))
             elif part[0] in CONNECTIVES:
                 self.marks.append((part[:1], 2))
                 waiting.append((part[2], filled))
@@ -52,10 +53,3 @@ def witness_form(formula, variables, witnesses):
     maker = WitnessMaker(variables, witnesses)
     maker.add_sentence(formula)
     return (joined_formula(maker.marks), tuple(maker.noted))
-
-
-def _with_term(filled, variable, term):
-    """The terms with one more, or another one, for a variable."""
-    more = {other: filled[other] for other in filled}
-    more[variable] = term
-    return more

@@ -1,8 +1,9 @@
 """Worlds: sorts of so many things, with tables for the functions and predicates."""
 
 from claimworlds.clauses import clause_variables
+from claimworlds.dicts import with_entry
 from claimworlds.errors import BadSize, BadTable
-from claimworlds.formulas import QUANTIFIERS, TRUTH_WORDS, LEAVES
+from claimworlds.formulas import LEAVES, QUANTIFIERS, TRUTH_WORDS
 from claimworlds.terms import TRUTH, is_variable, subterms
 from claimworlds.wholes import is_index, is_whole
 
@@ -57,7 +58,7 @@ class World:
         while formula[0] not in LEAVES and formula[0] not in TRUTH_WORDS:
             if formula[0] in QUANTIFIERS:
                 waiting.append((formula, things, 0))
-                things = _with_thing(things, (formula[1], formula[2]), 0)
+                things = with_entry(things, (formula[1], formula[2]), 0)
                 formula = formula[3]
             else:
                 waiting.append((formula, things, None))
@@ -78,7 +79,7 @@ class World:
             if answer == (kind == "some") or state + 1 == self.size(formula[2]):
                 return answer
             waiting.append((formula, things, state + 1))
-            inner = _with_thing(things, (formula[1], formula[2]), state + 1)
+            inner = with_entry(things, (formula[1], formula[2]), state + 1)
             return self._first_answer(formula[3], inner, waiting)
         if kind == "iff":
             if state is not None:
@@ -148,13 +149,6 @@ def _is_value(value, size):
     if size is None:
         return value is True or value is False
     return is_index(value, size)
-
-
-def _with_thing(things, variable, thing):
-    """The things with one more, or another one, for a variable."""
-    more = {other: things[other] for other in things}
-    more[variable] = thing
-    return more
 
 
 def _things_needed(literal, variables):
