@@ -122,8 +122,6 @@ def _narrowed_rows(quantified, inner, collector, connective, blank):
     made = []
     for row in rows:
         parts = [pieces[number] for number in row if not has_variable[number]]
-        if parts:
-            parts = [_chained(connective, parts)]
         bound = [pieces[number] for number in row if has_variable[number]]
         if bound:
             parts.append(quantified[:3] + (_chained(connective, bound),))
