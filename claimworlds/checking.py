@@ -1,7 +1,7 @@
 """The checker of papers: which steps are allowed, and their lines."""
 
 from claimworlds.clauses import clause_of, filled_clause, is_clause
-from claimworlds.errors import BadPlace, BadStep, NoSteps
+from claimworlds.errors import BadPlace, BadStep, NoSteps, NotRefutation
 from claimworlds.fillings import Filling
 from claimworlds.terms import TRUTH, are_alike, are_same, is_atom, is_term, is_variable, part_at, put_at
 from claimworlds.wholes import is_index, is_whole
@@ -13,7 +13,7 @@ def all_lines(vocabulary, given, paper):
     """The tuple of the lines of a paper."""
     lines = []
     for index, step in enumerate(paper.steps):
-        line = _line_of(vocabulary, given, lines, step)
+        line = line_of(vocabulary, given, lines, step)
         if line is None:
             raise BadStep(index)
         lines.append(line)
@@ -36,7 +36,18 @@ def is_refutation(vocabulary, given, paper):
         return False
 
 
-def _line_of(vocabulary, given, lines, step):
+def refuting_lines(vocabulary, given, paper):
+    """The lines of a paper, which must be a refutation."""
+    try:
+        lines = all_lines(vocabulary, given, paper)
+    except BadStep:
+        raise NotRefutation() from None
+    if not lines or lines[-1] != ():
+        raise NotRefutation()
+    return lines
+
+
+def line_of(vocabulary, given, lines, step):
     """The line of a step behind other lines, or None if the step is not allowed."""
     if not isinstance(step, tuple) or len(step) == 0 or not isinstance(step[0], str):
         return None

@@ -36,6 +36,19 @@ def literal_key(literal):
     return (flat_key(literal[1]), flat_key(literal[2]), literal[0])
 
 
+def literal_index(clause, literal):
+    """The index at which a literal stands in a clause, or None."""
+    for index, other in enumerate(clause):
+        if other[0] == literal[0] and are_same(other[1], literal[1]) and are_same(other[2], literal[2]):
+            return index
+    return None
+
+
+def side_number(literal, term):
+    """The number of the side of a literal that is this term: 0 for `one`, 1 for `two`."""
+    return 0 if are_same(literal[1], term) else 1
+
+
 def is_clause(vocabulary, value):
     """True if the value is a clause of the vocabulary."""
     if not isinstance(value, tuple):

@@ -7,6 +7,7 @@ from claimworlds.checking import all_lines
 from claimworlds.clauses import filled_literals, literal_key
 from claimworlds.errors import BadStep
 from claimworlds.fillings import Filling
+from claimworlds.papers import lines_used, needed_lines
 
 
 def all_leaves(vocabulary, given, paper):
@@ -15,7 +16,7 @@ def all_leaves(vocabulary, given, paper):
     tables = []
     for step in paper.steps:
         table = {}
-        for number in _lines_used(step):
+        for number in lines_used(step):
             for key, leaf in tables[number].items():
                 table.setdefault(key, leaf)
         tables.append(_leaf_table(given, step, list(table.values())) if step[0] in ("given", "fill") else table)
@@ -34,13 +35,6 @@ def is_cover(vocabulary, order, given, paper, goal):
         if order.compare_clauses(leaf, goal) not in ("below", "same"):
             return False
     return True
-
-
-def _lines_used(step):
-    """The numbers of the lines whose leaves the line of a step has, in order."""
-    if step[0] in ("fill", "more", "drop"):
-        return (step[1],)
-    return (step[1], step[4]) if step[0] == "replace" else ()
 
 
 def _leaf_key(leaf):
@@ -67,13 +61,8 @@ def _last_leaves(given, steps):
     A long paper may have many leaves at each line. So only the leaves of given and fill steps are made, and for the
     others is looked where their leaves come from.
     """
-    needed = {len(steps) - 1: True}
-    for number in reversed(range(len(steps))):
-        if number in needed:
-            for other in _lines_used(steps[number]):
-                needed[other] = True
     tables = {}
-    for number in sorted(needed):
+    for number in needed_lines(steps):
         step = steps[number]
         if step[0] == "given":
             tables[number] = _leaf_table(given, step, [])
@@ -96,5 +85,5 @@ def _leaves_of_line(steps, tables, start):
             for key, leaf in tables[number].items():
                 found.setdefault(key, leaf)
         else:
-            waiting.extend(_lines_used(steps[number])[::-1])
+            waiting.extend(lines_used(steps[number])[::-1])
     return list(found.values())

@@ -6,8 +6,8 @@ A way is a pair: the index of a literal, and a dict of the terms for variables b
 """
 
 from claimworlds.fillings import Filling
-from claimworlds.matching import matched
-from claimworlds.terms import is_variable, sort_of
+from claimworlds.matching import keeps_sorts, matched
+from claimworlds.terms import is_variable
 
 
 def inside(vocabulary, one, two):
@@ -15,7 +15,7 @@ def inside(vocabulary, one, two):
     if len(one) > len(two):
         return None
     rows = _all_ways(one, two)
-    rows = [[way for way in ways if _keeps_sorts(vocabulary, way[1])] for ways in rows]
+    rows = [[way for way in ways if keeps_sorts(vocabulary, way[1])] for ways in rows]
     filled = _placed(rows, False)
     return None if filled is None else Filling(list(filled.items()))
 
@@ -125,11 +125,6 @@ def _union(one, two):
     for variable in two:
         joined[variable] = two[variable]
     return joined
-
-
-def _keeps_sorts(vocabulary, filled):
-    """True if each term has the sort of its variable."""
-    return all([sort_of(vocabulary, filled[variable]) == variable[1] for variable in filled])
 
 
 def _renames(filled):

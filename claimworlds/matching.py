@@ -1,7 +1,7 @@
 """Matching: fillings that turn a pattern to a term."""
 
 from claimworlds.fillings import Filling
-from claimworlds.terms import is_variable
+from claimworlds.terms import is_variable, sort_of
 
 
 def match_terms(pattern, term):
@@ -28,3 +28,8 @@ def matched(pattern, term, filled):
             for pair in zip(part[1:], wanted[1:]):
                 waiting.append(pair)
     return found
+
+
+def keeps_sorts(vocabulary, filled):
+    """True if each term of a dict has the sort of its variable."""
+    return all([sort_of(vocabulary, filled[variable]) == variable[1] for variable in filled])

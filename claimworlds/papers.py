@@ -1,8 +1,35 @@
 """Papers: steps that show that a clause follows from given clauses."""
 
+LINE_ITEMS = {
+    "given": (), "same": (), "either": (), "fill": (1,), "more": (1,), "drop": (1,), "replace": (1, 4),
+}
+
 
 class Paper:
     """A sequence of steps. Which steps are allowed, and what their lines are, tells `checking`."""
 
     def __init__(self, steps):
         self.steps = tuple(steps)
+
+
+def lines_used(step):
+    """The numbers of the lines that the line of a step is made of, in order."""
+    return tuple([step[item] for item in LINE_ITEMS[step[0]]])
+
+
+def with_lines(step, numbers):
+    """The step with other numbers of lines: `numbers` has the new one under each old one."""
+    items = list(step)
+    for item in LINE_ITEMS[step[0]]:
+        items[item] = numbers[step[item]]
+    return tuple(items)
+
+
+def needed_lines(steps):
+    """The list of the numbers of the lines that the last one is made of, directly or through others, and of itself."""
+    needed = {len(steps) - 1: True} if steps else {}
+    for number in reversed(range(len(steps))):
+        if number in needed:
+            for other in lines_used(steps[number]):
+                needed[other] = True
+    return sorted(needed)

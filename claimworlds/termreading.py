@@ -10,7 +10,7 @@ class Head:
 
     def __init__(self, token, sort_token):
         self.is_variable = token[0] == "variable"
-        self.word = token[1]
+        self.name = token[1]
         self.column = token[2]
         self.sort_token = sort_token
         self.parts = 0
@@ -67,13 +67,13 @@ def _built(vocabulary, heads, bound, wants_atom):
     made = None
     for index, head in enumerate(heads):
         if head.is_variable:
-            made = (head.word, _variable_sort(vocabulary, head, bound))
+            made = (head.name, _variable_sort(vocabulary, head, bound))
         else:
             _check_head(vocabulary, head, wants_atom and index == 0)
             if head.parts > 0:
                 around.append((head, []))
                 continue
-            made = (head.word,)
+            made = (head.name,)
         made = _handed_on(vocabulary, around, made, head.column)
     return made
 
@@ -81,9 +81,9 @@ def _built(vocabulary, heads, bound, wants_atom):
 def _variable_sort(vocabulary, head, bound):
     """The sort of a variable, from the text behind it or from the quantifiers around it."""
     if head.sort_token is None:
-        if head.word not in bound:
+        if head.name not in bound:
             raise UnknownName(head.column)
-        return bound[head.word]
+        return bound[head.name]
     if head.sort_token[1] not in vocabulary.sorts:
         raise UnknownName(head.sort_token[2])
     return head.sort_token[1]
@@ -91,10 +91,10 @@ def _variable_sort(vocabulary, head, bound):
 
 def _check_head(vocabulary, head, is_predicate):
     """Refuses a name that is no function (no predicate), and a wrong number of parts."""
-    sort = vocabulary.value_sort(head.word)
+    sort = vocabulary.value_sort(head.name)
     if sort is None or (sort == TRUTH_SORT) != is_predicate:
         raise UnknownName(head.column)
-    if len(vocabulary.arguments(head.word)) != head.parts:
+    if len(vocabulary.arguments(head.name)) != head.parts:
         raise WrongCount(head.column)
 
 
@@ -102,12 +102,12 @@ def _handed_on(vocabulary, around, made, column):
     """Hands a term to the one around it, and that one on if it has all its parts; returns the outermost one."""
     while around:
         head, parts = around[-1]
-        if sort_of(vocabulary, made) != vocabulary.arguments(head.word)[len(parts)]:
+        if sort_of(vocabulary, made) != vocabulary.arguments(head.name)[len(parts)]:
             raise WrongSort(column)
         parts.append(made)
         if len(parts) < head.parts:
             return None
         around.pop()
-        made = (head.word,) + tuple(parts)
+        made = (head.name,) + tuple(parts)
         column = head.column
     return made

@@ -1,15 +1,14 @@
 """The walk: from a refutation and a world to a given clause that does not hold in the world."""
 
-from claimworlds.checking import all_lines
+from claimworlds.checking import refuting_lines
 from claimworlds.clauses import clause_variables
-from claimworlds.errors import BadStep, NotRefutation
 from claimworlds.fillings import Filling
 from claimworlds.terms import variables_of
 
 
 def walk(vocabulary, given, paper, world):
     """The pair of the index of a given clause and the tuple of things of its variables at which it does not hold."""
-    lines = _refuting_lines(vocabulary, given, paper)
+    lines = refuting_lines(vocabulary, given, paper)
     number = len(lines) - 1
     things = {}
     while paper.steps[number][0] != "given":
@@ -24,17 +23,6 @@ def walk(vocabulary, given, paper, world):
     variables = clause_variables(lines[number])
     things = _full_things(variables, things)
     return (paper.steps[number][1], tuple([things[variable] for variable in variables]))
-
-
-def _refuting_lines(vocabulary, given, paper):
-    """The lines of a paper, which must be a refutation."""
-    try:
-        lines = all_lines(vocabulary, given, paper)
-    except BadStep:
-        raise NotRefutation() from None
-    if not lines or lines[-1] != ():
-        raise NotRefutation()
-    return lines
 
 
 def _full_things(variables, things):

@@ -2,7 +2,10 @@
 
 import random
 
+from claimworlds.checking import line_of
 from claimworlds.clauses import clause_of, literal_of
+from claimworlds.orders import Order
+from claimworlds.papers import Paper
 from claimworlds.vocabularies import Vocabulary
 from claimworlds.worlds import World
 from samples import TRUTH
@@ -84,3 +87,45 @@ class Chances:
             else:
                 tables.append([self.random.random() < 0.5 for _ in range(count)])
         return World(SMALL, list(sizes.values()), tables)
+
+    def order(self):
+        """The plain order, or one with other ranks and weights."""
+        if self.random.random() < 0.4:
+            return Order.plain(SMALL)
+        names = [row[0] for row in SMALL.functions + SMALL.predicates]
+        self.random.shuffle(names)
+        return Order(names, [self.random.randint(1, 3) for _ in names])
+
+    def paper(self, given, many):
+        """A paper of so many steps, all of them allowed."""
+        steps = []
+        lines = []
+        while len(steps) < many:
+            step = self.step(given, lines)
+            line = line_of(SMALL, given, lines, step)
+            if line is not None:
+                steps.append(step)
+                lines.append(line)
+        return Paper(steps)
+
+    def step(self, given, lines):
+        """A step behind these lines; it need not be allowed."""
+        word = self.random.choice(["given"] * 4 + ["fill", "same", "either", "more", "drop", "drop"] + ["replace"] * 12)
+        if word == "given":
+            return (word, self.random.randrange(len(given)))
+        if word == "same":
+            return (word, self.term(self.random.choice(SMALL.sorts), 1))
+        if word == "either":
+            literal = self.literal(1)
+            return (word, literal[1], literal[2])
+        i = self.random.randrange(len(lines) + 1)
+        if word == "fill":
+            variables = self.random.sample(VARIABLES, self.random.randint(0, 3))
+            return (word, i, tuple((variable, self.term(variable[1], 1)) for variable in variables))
+        if word == "more":
+            return (word, i, self.literal(1))
+        if word == "drop":
+            return (word, i, self.random.randrange(3))
+        place = (self.random.randrange(2),) + self.random.choice([(), (), (0,), (1,), (0, 0)])
+        j = self.random.randrange(len(lines) + 1)
+        return (word, i, self.random.randrange(3), self.random.random() < 0.4, j, self.random.randrange(3), place)

@@ -39,6 +39,15 @@ FUNCTIONS = {
     ),
     "walking": ("walk(vocabulary, given, paper, world)",),
     "covering": ("all_leaves(vocabulary, given, paper)", "is_cover(vocabulary, order, given, paper, goal)"),
+    "joining": ("joined_paper(vocabulary, given, papers, paper)", "trimmed_paper(paper)"),
+    "turning": ("turned_paper(vocabulary, given, paper, first)",),
+    "papertexts": ("paper_text(paper)", "read_paper(vocabulary, text)"),
+    "stepping": (
+        "step_at(vocabulary, order, selection, clauses, address)", "all_steps(vocabulary, order, selection, clauses)",
+        "steps_with(vocabulary, order, selection, clauses, index)",
+    ),
+    "steppapers": ("step_paper(vocabulary, clauses, step)",),
+    "simplifying": ("simplify(vocabulary, order, helpers, clause)",),
 }
 CLASSES = {
     "vocabularies.Vocabulary": (
@@ -60,6 +69,9 @@ CLASSES = {
         "compare_clauses(self, ones, twos)",
     ),
     "papers.Paper": ("__init__(self, steps)",),
+    "stepping.Step": (),
+    "simplifying.Simplified": (),
+    "endings.Ending": ("__init__(self, order, selection, clauses, reasons, covers)",),
 }
 
 

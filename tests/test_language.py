@@ -187,6 +187,17 @@ class TestLanguage(unittest.TestCase):
                     if isinstance(inner, ast.Name) and inner.id == "cls":
                         self.assertIn(inner, called, where)
 
+    def test_methods_and_attributes(self):
+        """No name is a method of one class and an attribute of the same or of another one."""
+        methods = []
+        attributes = []
+        for node, _ in self.each():
+            if isinstance(node, ast.ClassDef):
+                methods.extend(inner.name for inner in node.body if isinstance(inner, ast.FunctionDef))
+            if isinstance(node, ast.Attribute) and isinstance(node.ctx, ast.Store):
+                attributes.append(node.attr)
+        self.assertEqual([name for name in methods if name in attributes], [])
+
     def test_generators(self):
         """A `yield` is a statement of its own, and no call of a generator stands outside of the head of a loop."""
         generators = []
