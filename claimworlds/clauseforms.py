@@ -1,6 +1,6 @@
 """Clause forms: the clauses of sentences, with the functions that were made for them."""
 
-from claimworlds.clauses import clause_of, is_tautology, literal_key, literal_of_piece
+from claimworlds.clauses import clause_key, clause_of, is_tautology, literal_of_piece
 from claimworlds.errors import NotSentence
 from claimworlds.formulas import is_sentence
 from claimworlds.inwards import inward_formula
@@ -32,7 +32,7 @@ def clause_form(vocabulary, sentences):
         witnesses.extend(more)
         for row in wide_rows(formula):
             clause = clause_of([literal_of_piece(piece) for piece in row])
-            key = tuple([literal_key(literal) for literal in clause])
+            key = clause_key(clause)
             if not is_tautology(clause) and key not in clauses:
                 clauses[key] = clause
                 origins.append(label)

@@ -36,6 +36,11 @@ def literal_key(literal):
     return (flat_key(literal[1]), flat_key(literal[2]), literal[0])
 
 
+def clause_key(clause):
+    """A key that equal clauses share, and equal sequences of literals."""
+    return tuple([literal_key(literal) for literal in clause])
+
+
 def literal_index(clause, literal):
     """The index at which a literal stands in a clause, or None."""
     for index, other in enumerate(clause):

@@ -4,7 +4,7 @@ While leaves are collected, they stand in a dict under keys that equal leaves sh
 """
 
 from claimworlds.checking import all_lines
-from claimworlds.clauses import filled_literals, literal_key
+from claimworlds.clauses import clause_key, filled_literals
 from claimworlds.errors import BadStep
 from claimworlds.fillings import Filling
 from claimworlds.papers import lines_used, needed_lines
@@ -29,17 +29,12 @@ def is_cover(vocabulary, order, given, paper, goal):
         lines = all_lines(vocabulary, given, paper)
     except BadStep:
         return False
-    if not lines or _leaf_key(lines[-1]) != _leaf_key(goal):
+    if not lines or clause_key(lines[-1]) != clause_key(goal):
         return False
     for leaf in _last_leaves(given, paper.steps):
         if order.compare_clauses(leaf, goal) not in ("below", "same"):
             return False
     return True
-
-
-def _leaf_key(leaf):
-    """A key that equal leaves share."""
-    return tuple([literal_key(literal) for literal in leaf])
 
 
 def _leaf_table(given, step, leaves):
@@ -51,7 +46,7 @@ def _leaf_table(given, step, leaves):
         made = [filled_literals(leaf, filling) for leaf in leaves]
     table = {}
     for leaf in made:
-        table.setdefault(_leaf_key(leaf), leaf)
+        table.setdefault(clause_key(leaf), leaf)
     return table
 
 

@@ -1,6 +1,7 @@
 """Worlds with tables for the witnesses of a clause form."""
 
 from claimworlds.dicts import with_entry
+from claimworlds.tuples import all_tuples
 from claimworlds.worlds import World
 
 
@@ -16,21 +17,13 @@ def _with_witness(world, witness):
     name, guides, variable, formula = witness
     sorts = tuple([guide[1] for guide in guides])
     table = []
-    for chosen in _all_things([world.size(sort) for sort in sorts]):
+    for chosen in all_tuples([list(range(world.size(sort))) for sort in sorts]):
         things = {guide: thing for guide, thing in zip(guides, chosen)}
         table.append(_least_thing(world, formula, variable, things))
     vocabulary = world.vocabulary.extended([(name, sorts, variable[1])])
     count = len(world.vocabulary.functions)
     tables = world.tables[:count] + (tuple(table),) + world.tables[count:]
     return World(vocabulary, world.sizes, tables)
-
-
-def _all_things(sizes):
-    """The list of the tuples of things of sorts with these sizes, in ascending order."""
-    rows = [()]
-    for size in sizes:
-        rows = [row + (thing,) for row in rows for thing in range(size)]
-    return rows
 
 
 def _least_thing(world, formula, variable, things):

@@ -51,11 +51,13 @@ class Helpers:
         for left, right in ((one, two), (two, one)):
             word = self.order.compare(left, right)
             if word in ("above", "open") and len(variables_of(left)) == count:
-                self.rules.setdefault(_head(left), []).append(Rule(index, left, right, word == "above"))
+                self.rules.setdefault(_rule_key(left), []).append(Rule(index, left, right, word == "above"))
 
     def rules_for(self, term):
         """The list of the rules that may fit a term that is no variable."""
-        return self.rules.get(term[0], []) + self.rules.get("", [])
+        found = self.rules.get((term[0], ""), []) + self.rules.get(("", ""), [])
+        key = _rule_key(term)
+        return found if key[1] == "" else self.rules.get(key, []) + found
 
     def rewriting(self, rule, term):
         """The use of a rule at a term, or None."""
@@ -79,6 +81,13 @@ class Helpers:
                     if filled is not None and keeps_sorts(self.vocabulary, filled):
                         return Use(index, filled, (not positive, one, two), None)
         return None
+
+
+def _rule_key(term):
+    """The names of a term and of its first part; the empty string for a variable and for no part."""
+    if is_variable(term):
+        return ("", "")
+    return (term[0], _head(term[1]) if len(term) > 1 else "")
 
 
 def _head(term):

@@ -2,19 +2,19 @@
 
 from claimworlds.checking import all_lines, last_line
 from claimworlds.drafts import Draft
-from claimworlds.papers import Paper, needed_lines, with_lines
+from claimworlds.papers import Paper, needed_steps, with_lines
 
 
 def joined_paper(vocabulary, given, papers, paper):
     """The paper from `given` in which the given clauses of another paper are the last lines of papers."""
     ends = [last_line(vocabulary, given, each) for each in papers]
     all_lines(vocabulary, ends, paper)
-    steps = _needed_steps(paper.steps)
+    steps = needed_steps(paper.steps)
     draft = Draft()
     lines = {}
     for step in steps:
         if step[0] == "given" and step[1] not in lines:
-            inner = _needed_steps(papers[step[1]].steps)
+            inner = needed_steps(papers[step[1]].steps)
             own = {each[1]: draft.given_line(each[1]) for each in inner if each[0] == "given"}
             lines[step[1]] = draft.copied_line(inner, own)
     return draft.paper_to(draft.copied_line(steps, lines))
@@ -34,17 +34,7 @@ def trimmed_paper(paper):
         numbers.append(firsts[key])
     if not kept:
         return Paper(())
-    return Paper(_needed_steps(kept[:numbers[-1] + 1]))
-
-
-def _needed_steps(steps):
-    """The list of the steps that the last one uses, directly or through others, with new numbers of lines."""
-    found = []
-    numbers = {}
-    for number in needed_lines(steps):
-        numbers[number] = len(found)
-        found.append(with_lines(steps[number], numbers))
-    return found
+    return Paper(needed_steps(kept[:numbers[-1] + 1]))
 
 
 def _step_key(step):

@@ -48,11 +48,11 @@ class Order:
         left, right, _ = path.pop()
         balance.weigh_in((left,), 1)
         balance.weigh_in((right,), -1)
-        word = balance.verdict(self._compare_names(left, right))
+        word = balance.word_with(self._compare_names(left, right))
         for left, right, index in reversed(path):
             balance.weigh_in(left[index + 1:], 1)
             balance.weigh_in(right[index + 1:], -1)
-            word = balance.verdict(word)
+            word = balance.word_with(word)
         return word
 
     def _compare_names(self, one, two):
@@ -90,7 +90,7 @@ class Balance:
                 else:
                     self.excess += sign * self.loads[part[0]]
 
-    def verdict(self, word):
+    def word_with(self, word):
         """How the first terms stand to the others, if for equal weights it is this word."""
         if self.excess != 0:
             word = "above" if self.excess > 0 else "below"

@@ -33,3 +33,13 @@ def needed_lines(steps):
             for other in lines_used(steps[number]):
                 needed[other] = True
     return sorted(needed)
+
+
+def needed_steps(steps):
+    """The list of the steps that the last one uses, directly or through others, with new numbers of lines."""
+    found = []
+    numbers = {}
+    for number in needed_lines(steps):
+        numbers[number] = len(found)
+        found.append(with_lines(steps[number], numbers))
+    return found

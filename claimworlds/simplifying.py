@@ -10,10 +10,11 @@ from claimworlds.trails import Trail
 class Simplified:
     """What a clause was simplified to, with a paper from the clause to it and a paper back."""
 
-    def __init__(self, result, forward, backward):
+    def __init__(self, result, forward, backward, is_changed):
         self.result = result
         self.forward = forward
         self.backward = backward
+        self.is_changed = is_changed
 
 
 def simplify(vocabulary, order, helpers, clause):
@@ -26,7 +27,8 @@ def simplified_by(helpers, clause):
     trail = Trail(helpers, clause)
     trail.go()
     forward = _forward_paper(helpers.count, trail.moves)
-    return Simplified(trail.clause, forward, _backward_paper(helpers.count, trail.moves))
+    backward = _backward_paper(helpers.count, trail.moves)
+    return Simplified(trail.clause, forward, backward, len(trail.moves) > 0)
 
 
 def _forward_paper(count, moves):

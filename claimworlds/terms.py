@@ -95,14 +95,28 @@ def flat_key(value):
 
 def are_same(one, two):
     """True if two terms, atoms or truths are equal."""
-    return one[0] == two[0] and flat_key(one) == flat_key(two)
+    return _first_difference(one, two) is None
 
 
 def comes_before(one, two):
     """True if the first one of two terms, atoms or truths comes before the other one in plain order."""
-    if one[0] != two[0]:
-        return one[0] < two[0]
-    return flat_key(one) < flat_key(two)
+    difference = _first_difference(one, two)
+    return difference is not None and difference[0] < difference[1]
+
+
+def _first_difference(one, two):
+    """The pair of the first names, or sorts of variables, in which two terms differ, from left to right; or None."""
+    waiting = [(one, two)]
+    while waiting:
+        left, right = waiting.pop()
+        if left[0] != right[0]:
+            return (left[0], right[0])
+        if is_variable(left):
+            if left[1] != right[1]:
+                return (left[1], right[1])
+        elif len(left) > 1:
+            waiting.extend(list(zip(left[:0:-1], right[:0:-1])))
+    return None
 
 
 def variables_of(term):

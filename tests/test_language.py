@@ -15,10 +15,11 @@ NODES = """
     Module FunctionDef ClassDef arguments arg Return Assign AugAssign For While If Expr Raise Try ExceptHandler ImportFrom
     alias Break Continue Delete BoolOp BinOp UnaryOp IfExp Dict ListComp DictComp Compare Call FormattedValue JoinedStr
     Constant Attribute Subscript Name List Tuple Slice Load Store Del comprehension Add Sub USub And Or Not Eq NotEq Lt LtE
-    Gt GtE Is IsNot In NotIn Mult Yield
+    Gt GtE Is IsNot In NotIn Mult Yield BitOr LShift Mod
+    keyword
 """.split()
 BUILTINS = """
-    len range enumerate zip sorted reversed str int bool list tuple isinstance iter all any max sum ValueError
+    len range enumerate zip sorted reversed str int bool list tuple isinstance iter all any max min sum ValueError
 """.split()
 METHODS = """
     append endswith extend get index items join partition pop setdefault split startswith values
@@ -100,7 +101,7 @@ class TestLanguage(unittest.TestCase):
         for node, where in self.each():
             self.assertIn(type(node).__name__, NODES, where)
             if isinstance(node, (ast.FunctionDef, ast.ClassDef)):
-                self.assertIn([ast.unparse(found) for found in node.decorator_list], ([], ["classmethod"]), where)
+                self.assertIn([ast.unparse(found) for found in node.decorator_list], ([], ["classmethod"], ["property"]), where)
                 self.assertFalse(node.decorator_list and isinstance(node, ast.ClassDef), where)
             if isinstance(node, ast.Constant):
                 self.assertNotIsInstance(node.value, (float, bytes, complex), where)
@@ -160,7 +161,7 @@ class TestLanguage(unittest.TestCase):
                 if name is not None:
                     self.assertFalse(name in own or name in dir(builtins) or name in NO_NAMES, f"{where} {name}")
                 if isinstance(node, ast.Name) and node.id in dir(builtins) and node.id not in own:
-                    self.assertIn(node.id, BUILTINS + ["super", "classmethod"], where)
+                    self.assertIn(node.id, BUILTINS + ["super", "classmethod", "property"], where)
                 if isinstance(node, ast.FunctionDef) and node.name.startswith("__"):
                     self.assertIn(node.name, DOUBLE, where)
                 if isinstance(node, ast.Attribute) and isinstance(node.ctx, ast.Store):
@@ -174,7 +175,10 @@ class TestLanguage(unittest.TestCase):
 
     def test_class_methods(self):
         """A class method calls `cls`, and does nothing else with it; its name is used for nothing else."""
-        made = [node.name for node, _ in self.each() if getattr(node, "decorator_list", None)]
+        made = []
+        for node, _ in self.each():
+            if [ast.unparse(found) for found in getattr(node, "decorator_list", [])] == ["classmethod"]:
+                made.append(node.name)
         defined = [node.name for node, _ in self.each() if isinstance(node, ast.FunctionDef)]
         for name in made:
             self.assertEqual(defined.count(name), 1)
