@@ -5,52 +5,75 @@ that has the fewest ways left, and turns back as soon as the places left are too
 A way is a pair: the index of a literal, and a dict of the terms for variables by which it is reached.
 """
 
+from claimworlds.clauses import clause_key
 from claimworlds.fillings import Filling
 from claimworlds.matching import keeps_sorts, matched
-from claimworlds.terms import is_variable
+from claimworlds.terms import TRUTH, is_variable
+
+
+class Goal:
+    """A clause in which others may be inside. It keeps the ways of literals, because others have the same ones."""
+
+    def __init__(self, vocabulary, clause):
+        self.vocabulary = vocabulary
+        self.clause = clause
+        self.ways = {}
+
+    def filling_for(self, clause, key):
+        """A filling by which a clause with this key is inside the goal, or None."""
+        if len(clause) > len(self.clause):
+            return None
+        rows = []
+        for literal, literal_key in zip(clause, key):
+            if literal_key not in self.ways:
+                self.ways[literal_key] = self._ways_of(literal)
+            rows.append(self.ways[literal_key])
+            if not rows[-1]:
+                return None
+        filled = _placed(rows, False)
+        return None if filled is None else Filling(list(filled.items()))
+
+    def _ways_of(self, literal):
+        """The ways of a literal that keep the sorts; these can differ only where a side is a variable."""
+        ways = _ways(literal, self.clause)
+        if is_variable(literal[1]) or is_variable(literal[2]):
+            return [way for way in ways if keeps_sorts(self.vocabulary, way[1])]
+        return ways
 
 
 def inside(vocabulary, one, two):
     """A filling by which a clause is inside another one, or None."""
-    if len(one) > len(two):
-        return None
-    rows = _all_ways(one, two)
-    rows = [[way for way in ways if keeps_sorts(vocabulary, way[1])] for ways in rows]
-    filled = _placed(rows, False)
-    return None if filled is None else Filling(list(filled.items()))
+    return Goal(vocabulary, two).filling_for(one, clause_key(one))
 
 
 def are_variants(one, two):
     """True if a clause becomes another one by naming its variables anew."""
-    return len(one) == len(two) and _placed(_all_ways(one, two), True) is not None
-
-
-def _all_ways(one, two):
-    """For each literal of a clause the ways to the literals of another one, up to the first one that has none."""
-    rows = []
-    for literal in one:
-        rows.append(_ways(literal, two))
-        if not rows[-1]:
-            break
-    return rows
+    return len(one) == len(two) and _placed([_ways(literal, two) for literal in one], True) is not None
 
 
 def _ways(literal, clause):
     """The ways of one literal: its sides may become those of a literal of the clause either way round."""
+    positive, one, two = literal
     ways = []
     for place, goal in enumerate(clause):
-        if literal[0] != goal[0]:
+        if positive != goal[0] or (two == TRUTH) != (goal[2] == TRUTH):
             continue
-        turns = [(goal[1], goal[2])]
-        if goal[1] != goal[2]:
-            turns.append((goal[2], goal[1]))
-        for left, right in turns:
-            filled = matched(literal[1], left, {})
-            if filled is not None:
-                filled = matched(literal[2], right, filled)
+        if two == TRUTH:
+            turns = [matched(one, goal[1], {})]
+        else:
+            turns = [_both_matched(literal, goal[1], goal[2])]
+            if goal[1] != goal[2]:
+                turns.append(_both_matched(literal, goal[2], goal[1]))
+        for filled in turns:
             if filled is not None:
                 ways.append((place, filled))
     return ways
+
+
+def _both_matched(literal, left, right):
+    """A dict of terms for variables by which the two sides of a literal become two terms, or None."""
+    filled = matched(literal[1], left, {})
+    return None if filled is None else matched(literal[2], right, filled)
 
 
 def _placed(rows, is_renaming):

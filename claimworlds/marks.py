@@ -2,7 +2,7 @@
 
 from claimworlds.terms import is_variable, subterms
 
-MOST_COUNTED = 6
+MOST_COUNTED = 12
 
 
 class Marks:

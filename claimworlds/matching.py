@@ -15,18 +15,20 @@ def matched(pattern, term, filled):
 
     None if there is none. It has an entry for each variable of the pattern, also for those that stay.
     """
+    if pattern[0] != term[0] and not is_variable(pattern):
+        return None
     found = {variable: filled[variable] for variable in filled}
     waiting = [(pattern, term)]
     while waiting:
         part, wanted = waiting.pop()
-        if is_variable(part):
+        # A variable: only its name begins with a sign that stands before the small letters.
+        if part[0] < "a":
             if found.setdefault(part, wanted) != wanted:
                 return None
         elif part[0] != wanted[0]:
             return None
-        else:
-            for pair in zip(part[1:], wanted[1:]):
-                waiting.append(pair)
+        elif len(part) > 1:
+            waiting.extend(list(zip(part[1:], wanted[1:])))
     return found
 
 

@@ -3,11 +3,11 @@
 from claimworlds.blocks import given_numbers, joined_steps, tautology_steps, unfolded_paper, wider_steps
 from claimworlds.checking import all_lines
 from claimworlds.choosing import clause_weight
-from claimworlds.clauses import is_clause, is_tautology
+from claimworlds.clauses import clause_key, is_clause, is_tautology
 from claimworlds.endings import Ending
 from claimworlds.errors import BadClause, NoClause, NotEnded, NotWaiting, RunOver
 from claimworlds.helpers import Helpers
-from claimworlds.insides import inside
+from claimworlds.insides import Goal
 from claimworlds.marks import Marks, may_be_inside
 from claimworlds.ports import Ports
 from claimworlds.selecting import selected_index
@@ -44,6 +44,7 @@ class Run:
         self._takes = 0
         self._marks = Marks()
         self._clause_marks = []
+        self._keys = []
         self._loads = []
         self._ports = {}
         self._sources = {}
@@ -122,6 +123,7 @@ class Run:
         self._clauses.append(clause)
         self._statuses.append(status)
         self._clause_marks.append(self._marks.mark_of(clause))
+        self._keys.append(clause_key(clause))
         self._loads.append(clause_weight(self.order, clause))
         return len(self._clauses) - 1
 
@@ -180,7 +182,8 @@ class Run:
         for number in begun:
             if number == fresh:
                 continue
-            filling = self._inside(fresh, self._clauses[number], self._clause_marks[number])
+            goal = Goal(self.vocabulary, self._clauses[number])
+            filling = self._inside(fresh, goal, self._clause_marks[number])
             if filling is not None:
                 self._statuses[number] = "thrown"
                 self._covers[number] = wider_steps(fresh, clause, filling, self._clauses[number])
@@ -234,19 +237,20 @@ class Run:
         """
         if is_tautology(clause):
             return tautology_steps(clause)
+        goal = Goal(self.vocabulary, clause)
         mark = self._marks.mark_of(clause)
         for number, status in enumerate(self._statuses):
             if own is None or (number != own and status != "thrown"):
-                filling = self._inside(number, clause, mark)
+                filling = self._inside(number, goal, mark)
                 if filling is not None:
                     return wider_steps(number, self._clauses[number], filling, clause)
         return None
 
-    def _inside(self, number, clause, mark):
-        """The filling by which a known clause is inside a clause with a mark, or None."""
+    def _inside(self, number, goal, mark):
+        """The filling by which a known clause is inside a goal with a mark, or None."""
         if not may_be_inside(self._clause_marks[number], mark):
             return None
-        return inside(self.vocabulary, self._clauses[number], clause)
+        return goal.filling_for(self._clauses[number], self._keys[number])
 
     def _helpers(self, numbers):
         """The clauses with these numbers as helpers."""
@@ -269,6 +273,7 @@ class Run:
         # The order in which bits are given has no say in what is found, so the marks may be shared.
         other._marks = self._marks
         other._clause_marks = list(self._clause_marks)
+        other._keys = list(self._keys)
         other._loads = list(self._loads)
         other._ports = {number: self._ports[number] for number in self._ports}
         other._sources = {number: self._sources[number] for number in self._sources}

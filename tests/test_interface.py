@@ -48,6 +48,15 @@ FUNCTIONS = {
     ),
     "steppapers": ("step_paper(vocabulary, clauses, step)",),
     "simplifying": ("simplify(vocabulary, order, helpers, clause)",),
+    "runs": ("played_run(vocabulary, order, selection, clauses, deeds, *, widest=8, largest=40)",),
+    "bridging": ("bridge_runs(one, two)",),
+    "choosing": (
+        "clause_weight(order, clause)", "choose_next(run, *, beat=3)", "drive_run(run, rounds, *, beat=3)",
+    ),
+    "judging": ("is_ending(vocabulary, given, ending)",),
+    "finite": ("finite_world(own)",),
+    "equations": ("equation_paper(own, one, two)",),
+    "asking": ("ask(book, claim, *, rounds=30, selection='none', beat=3)", "direct_paper(answer)"),
 }
 CLASSES = {
     "vocabularies.Vocabulary": (
@@ -72,6 +81,16 @@ CLASSES = {
     "stepping.Step": (),
     "simplifying.Simplified": (),
     "endings.Ending": ("__init__(self, order, selection, clauses, reasons, covers)",),
+    "runs.Run": (
+        "__init__(self, vocabulary, order, selection, clauses, *, widest=8, largest=40)", "status(self, number)",
+        "numbers(self, status)", "kept_clauses(self)", "taken_clauses(self)", "take(self, number)", "give(self, clause)",
+        "twin(self)", "paper_for(self, number)", "cover_for(self, number)", "all_reasons(self)", "carried(self, paper)",
+        "make_ending(self)",
+    ),
+    "ownworlds.OwnWorld": (
+        "__init__(self, vocabulary, ending, most)", "value(self, term)", "holds(self, clause)", "values_of(self, sort)",
+    ),
+    "asking.Answer": (),
 }
 
 
@@ -98,6 +117,15 @@ class TestInterface(unittest.TestCase):
             self.assertEqual(made.__module__, found.__name__)
             for form in forms:
                 self.check(vars(made)[form.split("(")[0]], form)
+
+    def test_properties(self):
+        for place, names in (
+            ("runs.Run", ("given", "known", "kept", "taken", "takes", "word", "deeds")), ("asking.Answer", ("follows", "used")),
+        ):
+            module, name = place.split(".")
+            made = getattr(importlib.import_module(f"claimworlds.{module}"), name)
+            for found in names:
+                self.assertIsInstance(vars(made)[found], property)
 
     def test_class_methods(self):
         order = importlib.import_module("claimworlds.orders").Order

@@ -202,6 +202,21 @@ class TestLanguage(unittest.TestCase):
                 attributes.append(node.attr)
         self.assertEqual([name for name in methods if name in attributes], [])
 
+    def test_properties(self):
+        """A property assigns nothing but plain local variables, and no other class has an attribute of its name."""
+        names = []
+        for node, where in self.each():
+            if [ast.unparse(found) for found in getattr(node, "decorator_list", [])] == ["property"]:
+                names.append(node.name)
+                for inner in ast.walk(node):
+                    if isinstance(inner, (ast.Attribute, ast.Subscript)):
+                        self.assertIsInstance(inner.ctx, ast.Load, where)
+                    if isinstance(inner, ast.Call) and isinstance(inner.func, ast.Attribute):
+                        self.fail(f"{where}: a property calls a method")
+        for node, where in self.each():
+            if isinstance(node, ast.Attribute) and isinstance(node.ctx, ast.Store):
+                self.assertNotIn(node.attr, names, where)
+
     def test_generators(self):
         """A `yield` is a statement of its own, and no call of a generator stands outside of the head of a loop."""
         generators = []
