@@ -1,7 +1,7 @@
 """Matching: fillings that turn a pattern to a term."""
 
 from claimworlds.fillings import Filling
-from claimworlds.terms import is_variable, sort_of
+from claimworlds.terms import are_same, is_variable, sort_of
 
 
 def match_terms(pattern, term):
@@ -23,7 +23,9 @@ def matched(pattern, term, filled):
         part, wanted = waiting.pop()
         # A variable: only its name begins with a sign that stands before the small letters.
         if part[0] < "a":
-            if found.setdefault(part, wanted) != wanted:
+            if part not in found:
+                found[part] = wanted
+            elif not are_same(found[part], wanted):
                 return None
         elif part[0] != wanted[0]:
             return None

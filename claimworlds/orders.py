@@ -62,7 +62,15 @@ class Order:
         return "above" if self._ranks[one[0]] > self._ranks[two[0]] else "below"
 
     def compare_literals(self, one, two):
-        """How a literal stands to another one."""
+        """How a literal stands to another one.
+
+        Of two literals with the truth the sides `one` tell, and if these are the same, the sign.
+        """
+        if one[2] == TRUTH and two[2] == TRUTH:
+            word = self.compare(one[1], two[1])
+            if word == "same" and one[0] != two[0]:
+                word = "below" if one[0] else "above"
+            return word
         return _compare_collections(_weighing_rows(one), _weighing_rows(two), self.compare)
 
     def compare_clauses(self, ones, twos):

@@ -5,7 +5,7 @@ from claimworlds.dicts import with_entry
 from claimworlds.fillings import filled_term
 from claimworlds.matching import keeps_sorts, matched
 from claimworlds.ports import Ports
-from claimworlds.terms import are_same, variables_of
+from claimworlds.terms import are_same
 
 
 class Candidate:
@@ -18,26 +18,25 @@ class Candidate:
         self.right = right
 
 
-class Start:
-    """A side of a positive literal of a clause, with which the search begins: `left` becomes a term or an atom.
+class Group:
+    """Literals with the variables that they share with one another, but not with other literals."""
 
-    The variables of `left` come first, then those of `right`. Behind so many of its variables as `checks` tells each
-    other literal can be compared.
-    """
+    def __init__(self, literals, variables):
+        self.literals = literals
+        self.variables = variables
+        self.rows = [(literal, clause_variables((literal,))) for literal in literals]
+
+
+class Start:
+    """A side of a positive literal of a clause, with which the search begins: `left` becomes a term or an atom."""
 
     def __init__(self, index, clause, number, side):
         self.index = index
         self.clause = clause
         self.left = clause[number][side + 1]
         self.right = clause[number][2 - side]
-        self.variables = clause_variables(((True, self.left, self.right),) + clause)
-        self.own_count = len(clause_variables(((True, self.left, self.right),)))
-        self.checks = []
-        counts = {variable: count + 1 for count, variable in enumerate(self.variables)}
-        for other, literal in enumerate(clause):
-            if other != number:
-                needed = [counts[variable] for variable in clause_variables((literal,))]
-                self.checks.append((max(needed + [self.own_count]), literal))
+        self.variables = clause_variables(((True, self.left, self.right),))
+        self.groups = _groups(clause[:number] + clause[number + 1:], self.variables)
 
 
 class RuleSearch:
@@ -58,54 +57,67 @@ class RuleSearch:
         """The candidate for a term or atom whose filled literals are the least, or None."""
         chosen = None
         for start in self.starts:
-            for other in self._candidates(start, term):
-                if chosen is None or self.order.compare_clauses(other.literals, chosen.literals) == "below":
-                    chosen = other
+            filled = matched(start.left, term, {})
+            if filled is not None and keeps_sorts(self.vocabulary, filled):
+                for head in self._longer(start.variables, filled):
+                    other = self._candidate(start, term, head)
+                    if other is not None and (chosen is None or self._is_less(other.literals, chosen.literals)):
+                        chosen = other
         return chosen
 
-    def _candidates(self, start, term):
-        """The list of the candidates with `left` as this term."""
-        found = []
-        filled = matched(start.left, term, {})
-        if filled is None or not keeps_sorts(self.vocabulary, filled) or not self._fits(start, term, filled):
-            return found
-        waiting = [filled]
-        while waiting:
-            filled = waiting.pop()
-            if len(filled) == len(start.variables):
-                found.append(self._candidate(start, filled))
-                continue
-            variable = start.variables[len(filled)]
-            for other in self.own_terms[variable[1]]:
-                more = with_entry(filled, variable, other)
-                if self._fits(start, term, more):
-                    waiting.append(more)
+    def _is_less(self, ones, twos):
+        """True if a collection of literals is below another one."""
+        return self.order.compare_clauses(ones, twos) == "below"
+
+    def _longer(self, variables, filled):
+        """The list of the dicts that have a term that is its own value for each further one of some variables, too."""
+        found = [filled]
+        for variable in variables:
+            if variable not in filled:
+                found = [with_entry(one, variable, term) for one in found for term in self.own_terms[variable[1]]]
         return found
 
-    def _candidate(self, start, filled):
-        """The candidate of a start whose variables are all filled."""
-        literals = [_filled_literal(literal, filled) for literal in start.clause]
-        return Candidate(start.index, filled, literals, filled_term(start.right, filled))
+    def _candidate(self, start, term, filled):
+        """The least candidate with a filled head, or None.
 
-    def _fits(self, start, term, filled):
-        """True if nothing speaks against a start of which the first variables are filled.
-
-        What could be compared with fewer variables was compared before, unless all variables of `left` came at once.
+        The literals of each group are compared by themselves: the least ones of all groups together are the least.
         """
-        count = len(filled)
-        is_begin = count == len(variables_of(start.left))
         right = filled_term(start.right, filled)
-        if count >= start.own_count and (is_begin or count == start.own_count):
-            if self.order.compare(right, term) != "below":
-                return False
+        if self.order.compare(right, term) != "below":
+            return None
         head = literal_of(True, term, right)
+        for group in start.groups:
+            filled = self._least(group, term, head, filled)
+            if filled is None:
+                return None
+        return Candidate(start.index, filled, _filled_literals(start.clause, filled), right)
+
+    def _least(self, group, term, head, filled):
+        """The dict, with terms for the variables of a group, too, by which its literals are the least; or None."""
+        chosen = None
+        waiting = [(filled, 0)]
+        while waiting:
+            one, count = waiting.pop()
+            if not self._fits(group, term, head, one):
+                continue
+            if count < len(group.variables):
+                variable = group.variables[count]
+                for other in reversed(self.own_terms[variable[1]]):
+                    waiting.append((with_entry(one, variable, other), count + 1))
+            elif chosen is None or self._is_less(
+                    _filled_literals(group.literals, one), _filled_literals(group.literals, chosen)):
+                chosen = one
+        return chosen
+
+    def _fits(self, group, term, head, filled):
+        """True if nothing speaks against the literals of a group, of which some variables may not be filled yet."""
         most = self.order.weight(term)
-        for needed, literal in start.checks:
+        for literal, variables in group.rows:
             other = _filled_literal(literal, filled)
-            if count < needed:
-                if self.order.weight(other[1]) > most or self.order.weight(other[2]) > most:
+            if all([variable in filled for variable in variables]):
+                if not self._is_lower(term, head, other):
                     return False
-            elif (is_begin or count == needed) and not self._is_lower(term, head, other):
+            elif self.order.weight(other[1]) > most or self.order.weight(other[2]) > most:
                 return False
         return True
 
@@ -121,6 +133,23 @@ class RuleSearch:
         return True
 
 
+def _groups(literals, variables):
+    """The list of the groups of literals; the variables that are told do not join two literals."""
+    groups = []
+    for literal in literals:
+        own = [variable for variable in clause_variables((literal,)) if variable not in variables]
+        joined = [group for group in groups if any([variable in group.variables for variable in own])]
+        groups = [group for group in groups if not any([variable in group.variables for variable in own])]
+        inner = [other for group in joined for other in group.literals] + [literal]
+        groups.append(Group(inner, [variable for variable in clause_variables(inner) if variable not in variables]))
+    return groups
+
+
 def _filled_literal(literal, filled):
     """The filled literal, in order."""
     return literal_of(literal[0], filled_term(literal[1], filled), filled_term(literal[2], filled))
+
+
+def _filled_literals(literals, filled):
+    """The list of the filled literals, each in order."""
+    return [_filled_literal(literal, filled) for literal in literals]

@@ -20,16 +20,13 @@ class RuleTable:
             whole = [part[0]]
             for _ in part[1:]:
                 whole.append(made.pop())
-            made.append(self.ends.get(flat_key(whole), tuple(whole)))
+            term = tuple(whole)
+            made.append(self.ends.get(flat_key(term), term))
         return made.pop()
 
     def has_own_parts(self, term):
         """True if each part of a term is its own value."""
         return all([are_same(part, self.end_of(part)) for part in term[1:]])
-
-    def has_rule(self, term):
-        """True if a term is the left side of a rule."""
-        return flat_key(term) in self.ends
 
     def makes_hold(self, literal):
         """True if a ground literal holds."""

@@ -82,6 +82,9 @@ def flat_key(value):
     Two terms, atoms or formulas are equal if their keys are, and the keys of terms and atoms compare in plain order.
     Python compares the keys without going into depth, however deep the tuples are nested.
     """
+    if not value or isinstance(value[-1], str):
+        # What ends with a string is a variable, a constant or the like, and has no tuples in it.
+        return value
     found = []
     waiting = [value]
     while waiting:

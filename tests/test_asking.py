@@ -126,6 +126,19 @@ class TestVerdicts(AskCase):
         answer = self.asks("open", text, "p0(a)", rounds=200)
         self.assertLess(answer.rounds, 200)
 
+    def test_what_is_too_large(self):
+        """Conclusions of 9 literals, and with a side of 41 symbols; one less is taken."""
+        for count, verdict in ((4, "not"), (5, "open")):
+            names = [f"p{k}" for k in range(4)] + [f"q{k}" for k in range(count)]
+            lines = ["predicate t"] + [f"predicate {name}" for name in names] + ["predicate r"]
+            lines += ["axiom one: r implies " + " or ".join(names[:4]), "axiom two: not r implies " + " or ".join(names[4:])]
+            self.asks(verdict, "\n".join(lines), "t", rounds=100)
+        for count, verdict in ((18, "not"), (19, "open")):
+            text = "sort s\nfunction a: s\nfunction f(s): s\npredicate q(s)\npredicate p(s)\npredicate r"
+            text += f"\naxiom one: p({'f(' * count}a{')' * count})"
+            text += f"\naxiom two: all X:s. not p(X) or q({'f(' * 19}f(X){')' * 19})"
+            self.asks(verdict, text, "r", selection="first", rounds=100)
+
     def test_no_rounds(self):
         answer = self.asks("open", GRAPH, "path(root,next(root))", rounds=0)
         self.assertEqual(answer.rounds, 0)

@@ -114,6 +114,12 @@ class TestJudging(unittest.TestCase):
             self.judges(False, reasons=reasons[:index] + reasons[:1] + reasons[index + 1:]) if index else None
         self.judges(False, reasons=reasons + ((("reflect", 0, 0), reasons[0][1]),))
 
+    def test_reasons_too_few_without_given_clauses(self):
+        made = clauses("p(f(a)) | r", "not p(f(a))", "r")
+        reasons = [(("replace", 0, 0, 0, 1, 0, (0,)), Paper([("given", 2)]))]
+        for wanted, rows in ((False, []), (True, reasons), (False, reasons + reasons)):
+            self.assertIs(is_ending(LAND, [], Ending(PLAIN, "none", made, rows, [])), wanted)
+
     def test_another_order_of_reasons(self):
         reasons = self.ending.reasons
         self.judges(False, reasons=reasons[::-1])

@@ -141,6 +141,15 @@ class TestRules(WorldCase):
         self.rules(2, ["f(a) = b | f(a) = a"], "f(a) b")
         self.rules(2, ["f(a) = c | f(a) = b", "c = a"], "c a", "f(a) c")
 
+    def test_another_literal_with_the_same_value_at_the_other_side(self):
+        heavy = Order(PLAIN.names, [5 if name == "c" else 1 for name in PLAIN.names])
+        self.assertEqual(read_clause(SPOT, "f(a) = c")[0][2], term("c"))
+        self.rules(5, ["f(a) = c | f(b) = c", "f(b) = f(a)", "h(X:s) = d"], "f(b) f(a)", *[
+            f"h({text}) d" for text in ("a", "b", "f(a)", "f(f(a))", "f(f(f(a)))")], order=heavy)
+        own = OwnWorld(SPOT, ending_of("f(a) = c | f(b) = c", order=heavy), 5)
+        self.check_plain(own)
+        self.assertEqual(own.rules, ((term("c"), term("f(b)")),))
+
     def test_the_least_of_several_candidates(self):
         self.rules(2, ["f(X:s) = b", "f(X:s) = a"], "f(a) a", "f(b) a", "f(c) a")
         self.rules(2, ["f(a) = c", "f(a) = b | r"], "f(a) b")

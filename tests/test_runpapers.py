@@ -102,6 +102,18 @@ class TestCarried(unittest.TestCase):
             twin.take(twin.numbers("waiting")[-1] if twin.takes < 3 else choose_next(twin))
             self.carries(twin, refutation)
 
+    def test_clauses_that_were_given_later(self):
+        """Their indexes in `given` are not their numbers."""
+        run = run_of("not p(X:s) | r", "p(a)", selection="first")
+        run.take(0)
+        run.take(1)
+        run.give(clause("q(a,b)"))
+        self.assertEqual((run.known[3], run.given[2]), (clause("q(a,b)"), clause("q(a,b)")))
+        self.carries(run, Paper([("given", 2)]))
+        self.carries(run, Paper([("given", 1), ("given", 2), ("more", 1, clause("r")[0])]))
+        drive_run(run, 9)
+        self.carries(run, Paper([("given", 2)]))
+
     def test_bad_steps(self):
         run = run_of("p(f(a))", "f(a) = b")
         drive_run(run, 9)

@@ -188,11 +188,15 @@ class TestTaking(RunCase):
         self.assertEqual(run.deeds, (("take", 0), ("take", 1)))
 
     def test_a_tautology(self):
-        run = run_of("r | not r", "a = a", "p(X:s) | p(Y:s) | X:s = X:s")
-        for number in range(3):
+        lines = (
+            "r | not r", "a = a", "p(X:s) | p(Y:s) | X:s = X:s", "p(a) | q(a,a) | r | not p(b) | not r", "a != b | r | a = b",
+            "not r | true = true | p(a)", "p(f(X:s)) | not q(X:s,Y:s) | q(X:s,Y:s)", "a != a | b = b | r",
+        )
+        run = run_of(*lines)
+        for number in range(len(lines)):
             self.takes(run, number)
-        self.statuses(run, "thrown", "thrown", "thrown")
-        self.assertEqual((run.word, run.takes), ("ended", 3))
+            self.assertEqual(run.status(number), "thrown")
+        self.assertEqual((run.word, run.takes), ("ended", len(lines)))
 
     def test_a_kept_clause_inside(self):
         # The one inside is waiting, then taken.
@@ -226,13 +230,12 @@ class TestTaking(RunCase):
         self.statuses(run, "thrown", "thrown", "taken", "waiting", "thrown", "waiting", "waiting")
         self.takes(run, 3)
         self.assertEqual(run.status(3), "taken")
-        # Where a clause is simplified the thrown ones count: p(f(a)) | r is thrown, and inside the result.
-        run.give(clause("p(f(a)) | r | q(c,c)"))
-        run.give(clause("p(X:s) | r"))
-        self.takes(run, 8)
-        self.assertEqual((run.status(3), run.status(8)), ("taken", "taken") if run.status(3) == "taken" else ("thrown", "taken"))
-        self.takes(run, 7)
-        self.assertEqual(run.status(7), "thrown")
+        # Where a clause is simplified the thrown ones count: p(f(a)) is inside the result p(f(a)) | q(b,b).
+        run = run_of("f(a) = c", "p(f(a))", "c = b", "p(f(a)) | q(c,c)")
+        for number in range(3):
+            run.take(number)
+        self.takes(run, 3)
+        self.assertEqual(run.status(3), "thrown")
 
     def test_simplified_to_a_tautology(self):
         run = run_of("f(X:s) = X:s", "p(f(a)) | not p(a)", "r")
@@ -487,6 +490,16 @@ class TestTwins(RunCase):
         self.assertEqual(state_of(twin), after)
         check_run(self, run)
         check_run(self, twin)
+
+    def test_a_twin_of_a_run_with_thrown_clauses(self):
+        run = run_of("p(f(a))", "f(X:s) = X:s", "r | p(a)", "not r | p(b)")
+        drive_run(run, 3)
+        self.assertTrue(run.numbers("thrown"))
+        twin = run.twin()
+        check_run(self, twin)
+        drive_run(twin, 9)
+        check_run(self, twin)
+        check_run(self, run)
 
     def test_the_same_deeds_in_both(self):
         run = run_of("f(f(X:s)) = f(X:s)", "p(f(X:s)) | r", "not p(f(f(a))) | q(a,a)", widest=1, largest=5)
