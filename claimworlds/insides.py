@@ -24,10 +24,10 @@ class Goal:
         if len(clause) > len(self.clause):
             return None
         rows = []
-        for literal, literal_key in zip(clause, key):
-            if literal_key not in self.ways:
-                self.ways[literal_key] = self._ways_of(literal)
-            rows.append(self.ways[literal_key])
+        for literal, part_key in zip(clause, key):
+            if part_key not in self.ways:
+                self.ways[part_key] = self._ways_of(literal)
+            rows.append(self.ways[part_key])
             if not rows[-1]:
                 return None
         filled = _placed(rows, False)

@@ -14,13 +14,13 @@ class Paper:
 
 def lines_used(step):
     """The numbers of the lines that the line of a step is made of, in order."""
-    return tuple([step[item] for item in LINE_ITEMS[step[0]]])
+    return tuple([step[item] for item in LINE_ITEMS.get(step[0], ())])
 
 
 def with_lines(step, numbers):
     """The step with other numbers of lines: `numbers` has the new one under each old one."""
     items = list(step)
-    for item in LINE_ITEMS[step[0]]:
+    for item in LINE_ITEMS.get(step[0], ()):
         items[item] = numbers[step[item]]
     return tuple(items)
 

@@ -111,7 +111,7 @@ class TestJudging(unittest.TestCase):
         for index in range(len(reasons)):
             self.judges(False, reasons=reasons[:index] + reasons[index + 1:])
             self.judges(False, reasons=reasons[:index] + reasons[index:index + 1] + reasons[index:])
-            self.judges(False, reasons=reasons[:index] + reasons[:1] + reasons[index + 1:]) if index else None
+            self.judges(index == 0, reasons=reasons[:index] + reasons[:1] + reasons[index + 1:])
         self.judges(False, reasons=reasons + ((("reflect", 0, 0), reasons[0][1]),))
 
     def test_reasons_too_few_without_given_clauses(self):

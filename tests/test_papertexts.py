@@ -77,7 +77,7 @@ class TestPaperTexts(unittest.TestCase):
             if text.count(" ") > 1:
                 at = text.rindex(" ")
                 self.refuses(text[:at] + " " + text[at:])
-                self.refuses(text[:at] + text[at + 1:]) if text != "fill 12 X:s=a" else None
+                self.refuses(text[:at] + text[at + 1:])
         with self.assertRaises(BadLine) as caught:
             read_paper(LAND, "given 0\n")
         self.assertEqual(caught.exception.number, 1)
