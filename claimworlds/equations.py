@@ -30,7 +30,7 @@ def equation_paper(own, one, two):
 def _rewritings(own, term):
     """The list of the rewritings by rules from a term to its value: the place, the left side, the candidate."""
     found = []
-    scan = Scan(term)
+    scan = Scan(term, {"": True})
     while scan.current is not None:
         candidate = own.candidate_for(scan.current)
         if candidate is None:

@@ -35,6 +35,8 @@ class Helpers:
         self.order = order
         self.count = len(clauses)
         self.rules = {}
+        # The names with which the sides of rules begin, the empty string for variables.
+        self.names = {}
         self.literals = {}
         for index, clause in enumerate(clauses):
             if len(clause) == 1:
@@ -51,6 +53,7 @@ class Helpers:
         for left, right in ((one, two), (two, one)):
             word = self.order.compare(left, right)
             if word in ("above", "open") and len(variables_of(left)) == count:
+                self.names[_head(left)] = True
                 self.rules.setdefault(_rule_key(left), []).append(Rule(index, left, right, word == "above"))
 
     def rules_for(self, term):

@@ -46,7 +46,7 @@ class Trail:
         begun = self.clause
         for literal in begun:
             self._cut(literal)
-        if not self.helpers.rules:
+        if not self.helpers.names:
             return
         literal = self._next_literal()
         while literal is not None:
@@ -79,7 +79,7 @@ class Trail:
         """Rewrites both sides of a literal until nothing is left to rewrite, or the literal is gone."""
         sides = [literal[1], literal[2]]
         for number in (0, 1):
-            scan = Scan(sides[number])
+            scan = Scan(sides[number], self.helpers.names)
             while scan.current is not None:
                 found = self._rewriting(literal, scan)
                 if found is None:

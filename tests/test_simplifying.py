@@ -16,7 +16,9 @@ from plainmoves import all_moves, reached
 from samples import GRAPH
 
 COUNTING = Vocabulary(
-    ("s",), (("e", (), "s"), ("a", ("s",), "s"), ("b", ("s",), "s"), ("c", ("s",), "s")), (("p", ("s",)),))
+    ("s",), (("e", (), "s"), ("a", ("s",), "s"), ("b", ("s",), "s"), ("c", ("s",), "s"), ("k", ("s", "s"), "s")), (("p", ("s",)),))
+COUNTERS = [read_clause(COUNTING, text) for text in (
+    "c(a(X:s)) = b(c(X:s))", "b(a(X:s)) = a(c(X:s))", "c(e) = b(e)", "b(e) = a(e)")]
 
 
 class SimplifyCase(unittest.TestCase):
@@ -242,17 +244,27 @@ class TestPapers(SimplifyCase):
 
     def test_many_rewritings(self):
         """The helpers count, so the number of rewritings doubles with each symbol."""
-        helpers = [read_clause(COUNTING, text) for text in (
-            "c(a(X:s)) = b(c(X:s))", "b(a(X:s)) = a(c(X:s))", "c(e) = b(e)", "b(e) = a(e)")]
         order = Order.plain(COUNTING)
         counts = []
         for depth in (3, 4, 9):
             goal = read_clause(COUNTING, "not p(c(" + "a(" * depth + "e" + ")" * depth + "))")
-            made = self.check(COUNTING, order, helpers, goal, 0)
+            made = self.check(COUNTING, order, COUNTERS, goal, 0)
             self.assertEqual(clause_text(made.result), "not p(" + "a(" * (depth + 1) + "e" + ")" * (depth + 2))
             counts.append(len(made.forward.steps))
         self.assertGreater(counts[1], 1.7 * counts[0])
         self.assertGreater(counts[2], 1000)
+
+    def test_rewritings_that_spare_others(self):
+        """What is cut, or what a rewriting at the outside leaves out, is not rewritten before."""
+        order = Order.plain(COUNTING)
+        long = "c(" + "a(" * 50 + "e" + ")" * 51
+        for helper, text, wanted in (
+            ("k(X:s,Y:s) = X:s", f"not p(k(e,{long}))", "not p(e)"), ("k(X:s,e) = e", f"not p(b(k({long},e)))", "not p(a(e))"),
+            ("p(X:s)", f"not p({long}) | e = a(e)", "e = a(e)"), ("p(k(X:s,Y:s))", f"p(k(e,{long})) | e = a(e)", "e = a(e) | true = true"),
+        ):
+            made = self.check(COUNTING, order, COUNTERS + [read_clause(COUNTING, helper)], read_clause(COUNTING, text), 0)
+            self.assertEqual(clause_text(made.result), wanted)
+            self.assertLess(len(made.forward.steps), 20)
 
     def test_large_terms(self):
         goal = clause("p(" + "f(" * 19 + "a" + ")" * 20)
