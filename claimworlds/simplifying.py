@@ -42,18 +42,19 @@ def _forward_paper(count, moves):
 
 def _line_behind(draft, line, move):
     """From the line before a move the line behind it."""
-    index = literal_index(move.before, move.literal)
+    index = move.index
     if move.use is None:
         return draft.write(("drop", line, index))
     helper = _helper_line(draft, move.use)
     if move.made is not None:
         return draft.write(("replace", helper, 0, move.turned, line, index, move.place))
     # The positive one of the two literals turns the other one to one with two equal sides.
-    if move.literal[0]:
+    positive, _, two = move.before[index]
+    if positive:
         line = draft.write(("replace", line, index, False, helper, 0, (0,)))
     else:
         line = draft.write(("replace", helper, 0, False, line, index, (0,)))
-    void = (False, move.literal[2], move.literal[2])
+    void = (False, two, two)
     return draft.write(("drop", line, literal_index(clause_of(move.after + (void,)), void)))
 
 
@@ -69,16 +70,15 @@ def _backward_paper(count, moves):
 def _line_before(draft, line, move):
     """From the line behind a move the line before it."""
     if move.made is None:
-        return draft.wider_line(line, [move.literal])
+        return draft.wider_line(line, [move.before[move.index]])
     helper = _helper_line(draft, move.use)
     if move.use.made == TRUTH:
         # The filled helper is the literal itself.
-        index = literal_index(move.before, move.literal)
-        return draft.wider_line(helper, move.before[:index] + move.before[index + 1:])
+        return draft.wider_line(helper, move.before[:move.index] + move.before[move.index + 1:])
     index = literal_index(move.after, move.made)
     line = draft.write(("replace", helper, 0, not move.turned, line, index, move.made_place))
-    is_missing = literal_index(move.before, move.made) is not None
-    return draft.wider_line(line, [move.made]) if is_missing else line
+    # If the clause became shorter, the literal that was made had been there already.
+    return draft.wider_line(line, [move.made]) if len(move.after) < len(move.before) else line
 
 
 def _helper_line(draft, use):

@@ -6,15 +6,15 @@ from claimworlds.terms import TRUTH, are_same, put_at
 
 
 class Move:
-    """One rewriting, cut or clearing: the clauses before and after it, and the literal that it changes or leaves out.
+    """One rewriting, cut or clearing: the clauses before and after it, and what it does to the literal at an index.
 
     `use` is the use of a helper, None for a clearing. `made` is the literal that a rewriting makes, otherwise None.
     """
 
-    def __init__(self, before, after, literal, made, use):
+    def __init__(self, before, after, index, made, use):
         self.before = before
         self.after = after
-        self.literal = literal
+        self.index = index
         self.made = made
         self.use = use
         # For a rewriting: whether it goes from `two` of the helper to `one`, and the places in both literals.
@@ -66,7 +66,7 @@ class Trail:
         """Records a clearing or a cut."""
         index = literal_index(self.clause, literal)
         after = self.clause[:index] + self.clause[index + 1:]
-        self.moves.append(Move(self.clause, after, literal, None, use))
+        self.moves.append(Move(self.clause, after, index, None, use))
         self.clause = after
 
     def _cut(self, literal):
@@ -118,7 +118,7 @@ class Trail:
         made = literal_of(literal[0], sides[0], sides[1])
         index = literal_index(self.clause, literal)
         after = clause_of(self.clause[:index] + self.clause[index + 1:] + (made,))
-        move = Move(self.clause, after, literal, made, use)
+        move = Move(self.clause, after, index, made, use)
         move.turned = not are_same(use.literal[1], scan.current)
         move.place = (side_number(literal, old),) + scan.current_place()
         move.made_place = (side_number(made, sides[number]),) + scan.current_place()
