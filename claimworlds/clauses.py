@@ -1,6 +1,6 @@
 """Literals and clauses."""
 
-from claimworlds.terms import TRUTH, are_alike, are_same, comes_before, flat_key, is_atom, variables_of
+from claimworlds.terms import TRUTH, are_alike, are_same, comes_before, is_atom, term_key, variables_of
 
 
 def literal_of(positive, one, two):
@@ -33,7 +33,7 @@ def clause_of(literals):
 
 def literal_key(literal):
     """A key that equal literals share; the literals of a clause stand in the order of their keys."""
-    return (flat_key(literal[1]), flat_key(literal[2]), literal[0])
+    return (term_key(literal[1]), term_key(literal[2]), literal[0])
 
 
 def clause_key(clause):

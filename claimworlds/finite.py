@@ -1,6 +1,6 @@
 """Own worlds as worlds with tables."""
 
-from claimworlds.terms import flat_key
+from claimworlds.terms import term_key
 from claimworlds.tuples import all_tuples
 from claimworlds.worlds import World
 
@@ -30,5 +30,5 @@ def _thing(values, row, end):
     """The number of a value of a function, or True or False for one of a predicate."""
     if len(row) == 2:
         return end == ("true",)
-    keys = [flat_key(term) for term in values[row[2]]]
-    return keys.index(flat_key(end))
+    keys = [term_key(term) for term in values[row[2]]]
+    return keys.index(term_key(end))

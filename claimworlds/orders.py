@@ -2,7 +2,7 @@
 
 from claimworlds.clauses import literal_key
 from claimworlds.errors import BadWeight, NameTaken
-from claimworlds.terms import TRUTH, flat_key, is_variable, subterms
+from claimworlds.terms import TRUTH, is_variable, subterms, term_key
 
 LEAST_WEIGHT = 1
 MOST_WEIGHT = 9
@@ -128,7 +128,7 @@ def _difference_path(one, two):
 
 def _weighing_rows(literal):
     """The weighing collection of a literal, each side behind its key."""
-    sides = [(flat_key(side), side) for side in literal[1:]]
+    sides = [(term_key(side), side) for side in literal[1:]]
     return sides if literal[0] else sides + sides
 
 

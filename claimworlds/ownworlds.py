@@ -4,7 +4,7 @@ from claimworlds.errors import TooHeavy
 from claimworlds.groundterms import ground_terms
 from claimworlds.rulesearch import RuleSearch
 from claimworlds.ruletables import RuleTable
-from claimworlds.terms import flat_key, sort_of
+from claimworlds.terms import sort_of, term_key
 from claimworlds.vocabularies import TRUTH_SORT
 
 
@@ -37,12 +37,12 @@ class OwnWorld:
             return []
         own_terms.pop()
         self._table.enter(term, chosen.right)
-        self._chosen[flat_key(term)] = chosen
+        self._chosen[term_key(term)] = chosen
         return [(term, chosen.right)]
 
     def candidate_for(self, term):
         """The candidate of which the rule with this left side was made, or None."""
-        return self._chosen.get(flat_key(term))
+        return self._chosen.get(term_key(term))
 
     def value(self, term):
         """The value of a ground term or atom."""

@@ -1,6 +1,6 @@
 """Rules of ground terms and atoms, and the values that they give."""
 
-from claimworlds.terms import are_same, flat_key, subterms
+from claimworlds.terms import are_same, subterms, term_key
 
 
 class RuleTable:
@@ -11,7 +11,7 @@ class RuleTable:
 
     def enter(self, left, right):
         """Enters a rule. The rules for all that is below its left side are there already."""
-        self.ends[flat_key(left)] = self.end_of(right)
+        self.ends[term_key(left)] = self.end_of(right)
 
     def end_of(self, term):
         """The value of a ground term, an atom or the truth by the rules so far."""
@@ -21,7 +21,7 @@ class RuleTable:
             for _ in part[1:]:
                 whole.append(made.pop())
             term = tuple(whole)
-            made.append(self.ends.get(flat_key(term), term))
+            made.append(self.ends.get(term_key(term), term))
         return made.pop()
 
     def has_own_parts(self, term):

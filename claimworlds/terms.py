@@ -76,15 +76,28 @@ def subterms(term):
     return found
 
 
-def flat_key(value):
-    """The strings in a term, in an atom or in any tuples of tuples and strings, from left to right.
+def term_key(term):
+    """The names and sorts in a term, an atom or the truth, from left to right.
 
-    Two terms, atoms or formulas are equal if their keys are, and the keys of terms and atoms compare in plain order.
-    Python compares the keys without going into depth, however deep the tuples are nested.
+    Two terms are equal if their keys are, and the keys compare in plain order. Python compares the keys without going
+    into depth, however deep the terms are nested.
     """
-    if not value or isinstance(value[-1], str):
-        # What ends with a string is a variable, a constant or the like, and has no tuples in it.
-        return value
+    if len(term) == 1:
+        return term
+    found = []
+    waiting = [term]
+    while waiting:
+        part = waiting.pop()
+        if is_variable(part):
+            found.extend(part)
+        else:
+            found.append(part[0])
+            waiting.extend(part[:0:-1])
+    return tuple(found)
+
+
+def flat_key(value):
+    """The strings in any tuples of tuples and strings, from left to right; equal values have equal keys."""
     found = []
     waiting = [value]
     while waiting:
