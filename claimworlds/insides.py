@@ -84,7 +84,8 @@ def _placed(rows, is_renaming):
     waiting = [({}, None, rows)]
     while waiting:
         filled, taken, rows = waiting.pop()
-        rows = [_ways_left(ways, taken, filled, is_renaming) for ways in rows]
+        if taken is not None or is_renaming:
+            rows = [_ways_left(ways, taken, filled, is_renaming) for ways in rows]
         if not rows:
             return filled
         if _have_room(rows):
@@ -116,6 +117,8 @@ def _least_row(rows):
 
 def _have_room(rows):
     """True if there is a place of its own for each row, whatever the terms of the ways."""
+    if not all(rows):
+        return False
     holders = {}
     for index in range(len(rows)):
         if not _gets_place(rows, index, holders, {}):
