@@ -56,18 +56,21 @@ def side_number(literal, term):
 
 def is_clause(vocabulary, value):
     """True if the value is a clause of the vocabulary."""
-    if not isinstance(value, tuple):
+    if not isinstance(value, tuple) or not all([_is_literal(vocabulary, item) for item in value]):
         return False
-    return all([_has_sides(vocabulary, item) for item in value]) and value == clause_of(value)
+    # Not the literals are compared, but their keys, for what stands in the literals may be nested very deep.
+    keys = clause_key(value)
+    return all([keys[index] < keys[index + 1] for index in range(len(keys) - 1)])
 
 
-def _has_sides(vocabulary, value):
-    """True for a triple of True or False and two sides that may stand in one literal, in this order."""
+def _is_literal(vocabulary, value):
+    """True if the value is a literal in order, as it may stand in a clause of the vocabulary."""
     if not isinstance(value, tuple) or len(value) != 3 or not (value[0] is True or value[0] is False):
         return False
-    if value[2] == TRUTH:
-        return value[1] == TRUTH or is_atom(vocabulary, value[1])
-    return are_alike(vocabulary, value[1], value[2])
+    _, one, two = value
+    if two == TRUTH:
+        return one == TRUTH or is_atom(vocabulary, one)
+    return are_alike(vocabulary, one, two) and not comes_before(one, two)
 
 
 def clause_variables(clause):

@@ -2,13 +2,14 @@
 
 The search places the literals of one clause on different literals of the other. It always goes on with a literal
 that has the fewest ways left, and turns back as soon as the places left are too few for the literals left.
-A way is a pair: the index of a literal, and a dict of the terms for variables by which it is reached.
+A way is a pair: the index of a literal, and a dict of the terms for variables by which it is reached. Each term stands
+there behind its key: terms may be nested far too deep for Python to compare them, but their keys are flat.
 """
 
 from claimworlds.clauses import clause_key
 from claimworlds.fillings import Filling
 from claimworlds.matching import keeps_sorts, matched
-from claimworlds.terms import TRUTH, is_variable
+from claimworlds.terms import TRUTH, are_same, is_variable, term_key
 
 
 class Goal:
@@ -31,14 +32,14 @@ class Goal:
             if not rows[-1]:
                 return None
         filled = _placed(rows, False)
-        return None if filled is None else Filling(list(filled.items()))
+        return None if filled is None else Filling([(variable, filled[variable][1]) for variable in filled])
 
     def _ways_of(self, literal):
         """The ways of a literal that keep the sorts; these can differ only where a side is a variable."""
-        ways = _ways(literal, self.clause)
+        fillings = _fillings(literal, self.clause)
         if is_variable(literal[1]) or is_variable(literal[2]):
-            return [way for way in ways if keeps_sorts(self.vocabulary, way[1])]
-        return ways
+            fillings = [row for row in fillings if keeps_sorts(self.vocabulary, row[1])]
+        return _ways(fillings)
 
 
 def inside(vocabulary, one, two):
@@ -48,13 +49,24 @@ def inside(vocabulary, one, two):
 
 def are_variants(one, two):
     """True if a clause becomes another one by naming its variables anew."""
-    return len(one) == len(two) and _placed([_ways(literal, two) for literal in one], True) is not None
+    return len(one) == len(two) and _placed([_ways(_fillings(literal, two)) for literal in one], True) is not None
 
 
-def _ways(literal, clause):
-    """The ways of one literal: its sides may become those of a literal of the clause either way round."""
-    positive, one, two = literal
+def _ways(fillings):
+    """The ways of a literal, from pairs of an index and a dict of terms without keys."""
     ways = []
+    for place, filled in fillings:
+        ways.append((place, {variable: (term_key(filled[variable]), filled[variable]) for variable in filled}))
+    return ways
+
+
+def _fillings(literal, clause):
+    """The list of the pairs of an index and a dict of terms by which a literal becomes that literal of the clause.
+
+    The sides of the literal may become those of the other one either way round.
+    """
+    positive, one, two = literal
+    found = []
     for place, goal in enumerate(clause):
         if positive != goal[0] or (two == TRUTH) != (goal[2] == TRUTH):
             continue
@@ -62,12 +74,12 @@ def _ways(literal, clause):
             turns = [matched(one, goal[1], {})]
         else:
             turns = [_both_matched(literal, goal[1], goal[2])]
-            if goal[1] != goal[2]:
+            if turns[0] is None or not are_same(goal[1], goal[2]):
                 turns.append(_both_matched(literal, goal[2], goal[1]))
         for filled in turns:
             if filled is not None:
-                ways.append((place, filled))
-    return ways
+                found.append((place, filled))
+    return found
 
 
 def _both_matched(literal, left, right):
@@ -120,27 +132,47 @@ def _have_room(rows):
     if not all(rows):
         return False
     holders = {}
+    places = {}
     for index in range(len(rows)):
-        if not _gets_place(rows, index, holders, {}):
+        if not _gets_place(rows, index, holders, places):
             return False
     return True
 
 
-def _gets_place(rows, index, holders, seen):
-    """True if a row gets a place, perhaps that of another row which gets a new one."""
-    for place, _ in rows[index]:
-        if place not in seen:
-            seen[place] = True
-            if place not in holders or _gets_place(rows, holders[place], holders, seen):
-                holders[place] = index
+def _gets_place(rows, index, holders, places):
+    """True if a row gets a place, perhaps that of another row which gets a new one.
+
+    `holders` has the row for each place that is taken, `places` the place for each row that has one.
+    """
+    wanted = {}
+    waiting = [index]
+    while waiting:
+        row = waiting.pop()
+        for place, _ in rows[row]:
+            if place in wanted:
+                continue
+            wanted[place] = row
+            if place not in holders:
+                _hand_over(place, wanted, holders, places)
                 return True
+            waiting.append(holders[place])
     return False
+
+
+def _hand_over(place, wanted, holders, places):
+    """Gives a place to the row that wants it, then the place that this row had to the row that wants that one."""
+    while place is not None:
+        row = wanted[place]
+        left = places.get(row)
+        holders[place] = row
+        places[row] = place
+        place = left
 
 
 def _agree(one, two):
     """True if two dicts of terms have no variable with two terms."""
     for variable in two:
-        if variable in one and one[variable] != two[variable]:
+        if variable in one and one[variable][0] != two[variable][0]:
             return False
     return True
 
@@ -157,7 +189,7 @@ def _renames(filled):
     """True if different variables of the same sorts stand in the place of the variables."""
     taken = {}
     for variable in filled:
-        term = filled[variable]
+        term = filled[variable][1]
         if not is_variable(term) or term[1] != variable[1] or term in taken:
             return False
         taken[term] = True

@@ -38,14 +38,16 @@ def trimmed_paper(paper):
 
 
 def _step_key(step):
-    """A key that equal steps share, flat and with a sign for each bracket."""
+    """A key that equal steps share, and no others: its items from left to right, and for each tuple first its length.
+
+    The length stands in a tuple of its own, which nothing else is in the key.
+    """
     found = []
     waiting = [step]
     while waiting:
         item = waiting.pop()
         if isinstance(item, tuple):
-            found.append("(")
-            waiting.append(")")
+            found.append((len(item),))
             waiting.extend(item[::-1])
         else:
             found.append(item)

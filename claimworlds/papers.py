@@ -1,5 +1,7 @@
 """Papers: steps that show that a clause follows from given clauses."""
 
+from claimworlds.wholes import is_whole
+
 LINE_ITEMS = {
     "given": (), "same": (), "either": (), "fill": (1,), "more": (1,), "drop": (1,), "replace": (1, 4),
 }
@@ -14,15 +16,25 @@ class Paper:
 
 def lines_used(step):
     """The numbers of the lines that the line of a step is made of, in order."""
-    return tuple([step[item] for item in LINE_ITEMS.get(step[0], ())])
+    return tuple([step[item] for item in _line_items(step)])
 
 
 def with_lines(step, numbers):
     """The step with other numbers of lines: `numbers` has the new one under each old one."""
     items = list(step)
-    for item in LINE_ITEMS.get(step[0], ()):
+    for item in _line_items(step):
         items[item] = numbers[step[item]]
     return tuple(items)
+
+
+def _line_items(step):
+    """The list of the indexes of the items that are numbers of lines.
+
+    Steps that are not allowed may have fewer items than others with their word, and anything among them.
+    """
+    if len(step) == 0 or not isinstance(step[0], str):
+        return []
+    return [item for item in LINE_ITEMS.get(step[0], ()) if item < len(step) and is_whole(step[item])]
 
 
 def needed_lines(steps):

@@ -82,7 +82,7 @@ def term_key(term):
     Two terms are equal if their keys are, and the keys compare in plain order. Python compares the keys without going
     into depth, however deep the terms are nested.
     """
-    if len(term) == 1:
+    if len(term) == 1 or is_variable(term):
         return term
     found = []
     waiting = [term]

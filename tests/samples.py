@@ -74,9 +74,8 @@ def clause(*literals):
     return clause_of(literals)
 
 
-def deep_term(depth):
-    """A term that is nested so deep."""
-    made = ROOT
+def deep_term(depth, made=ROOT):
+    """A term that is nested so deep, around a root or another term."""
     for _ in range(depth):
         made = next_of(made)
     return made

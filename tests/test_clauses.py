@@ -85,6 +85,19 @@ class TestClauses(unittest.TestCase):
         self.assertIs(is_tautology(((True, deep_term(3000), deep),)), True)
         self.assertIs(is_clause(GRAPH, made), True)
 
+    def test_deep_terms_in_what_is_no_clause(self):
+        """Equal terms that were made apart, and terms that differ only at the end: no answer may go into depth."""
+        deep, again, less = deep_term(20000), deep_term(20000), deep_term(20000, LEAF)
+        for value, wanted in (
+            (((True, deep, less),), True), (((True, less, deep),), False), (((True, deep, again),), True),
+            (((True, deep, less), (True, again, less)), False), (((False, deep, less), (True, again, less)), True),
+            (((True, deep, less), (False, again, less)), False), (((True, deep, X), (True, again, less)), True),
+            (((True, deep, less), (True, again, X)), False),
+            ((lit(less), lit(deep)), True), ((lit(deep), lit(less)), False), ((lit(deep), lit(again)), False),
+            ((dark(deep), lit(again)), True), ((lit(deep), dark(again)), False), ((lit(less), lit(deep), lit(again)), False),
+        ):
+            self.assertIs(is_clause(GRAPH, value), wanted)
+
     def test_all_orders_give_one_clause(self):
         literals = [lit(X), dark(X), same(X, Y), other(X, Y), RAIN]
         wanted = clause_of(literals)

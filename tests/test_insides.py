@@ -7,9 +7,11 @@ import unittest
 from claimworlds.clauses import clause_of, clause_variables, filled_clause, filled_literals, literal_of
 from claimworlds.fillings import Filling, fresh_filling
 from claimworlds.insides import are_variants, inside
-from claimworlds.terms import is_variable, part_at, inner_places, sort_of
+from claimworlds.terms import inner_places, is_variable, part_at, size_of, sort_of
 from claimworlds.vocabularies import Vocabulary
-from samples import E, GRAPH, LEAF, LOOP, ROOT, TRUTH, X, Y, Z, clause, dark, join, lit, next_of, other, past, same
+from samples import (
+    E, GRAPH, LEAF, LOOP, ROOT, TRUTH, X, Y, Z, clause, dark, deep_term, join, lit, next_of, other, past, same,
+)
 
 RAIN = (True, ("rain",), TRUTH)
 
@@ -164,7 +166,6 @@ class TestInside(unittest.TestCase):
         self.finds(chain, backwards)
         self.finds_none(chain, clause_of(chain[1:] + (past(names[3], names[0]),)))
 
-
     def test_the_literal_with_the_fewest_ways_comes_first(self):
         names = [("X" + str(index), "node") for index in range(14)]
         for pair in (past, lambda one, two: same(join(one, two), LEAF)):
@@ -173,6 +174,35 @@ class TestInside(unittest.TestCase):
                 literals = [lit(name) for name in names[:k]]
                 self.finds_none(clause_of(literals + [pair(X, Y), pair(Y, X)]), clause_of(literals + ring))
                 self.finds(clause_of(literals + ring), clause_of(literals + ring + [pair(X, X)]))
+
+    def test_deep_terms(self):
+        """What is asked of one variable twice are equal terms that were made apart, or terms that differ at the end."""
+        deep, again, less = deep_term(20000), deep_term(20000), deep_term(20000, LEAF)
+        both = clause(lit(X), past(X, Y))
+        for one, two, sizes in (
+            (both, clause(lit(deep), past(again, ROOT)), [20001, 1]), (both, clause(lit(deep), past(less, ROOT)), None),
+            (clause(lit(X), lit(Y), past(X, Y)), clause(lit(deep), lit(less), past(again, less)), [20001, 20001]),
+            (clause(lit(X), past(X, X)), clause(lit(deep), past(again, deep)), [20001]),
+            (clause(lit(X), past(X, X)), clause(lit(deep), past(again, less)), None),
+            (clause(same(deep, less)), clause(same(less, again)), []), (clause(same(deep, again)), clause(same(deep, less)), None),
+            (clause(same(X, X)), clause(same(deep, again)), [20001]), (clause(same(X, X)), clause(same(deep, less)), None),
+            (clause(same(X, Y), lit(X)), clause(same(deep, less), lit(again)), [20001, 20001]),
+            (clause(same(X, Y), lit(X)), clause(same(deep, less), lit(ROOT)), None),
+            (clause(same(deep_term(20000, X), Y), lit(X)), clause(same(deep, less), lit(LEAF)), [1, 20001]),
+        ):
+            found = inside(GRAPH, one, two)
+            self.assertEqual(None if found is None else [size_of(part) for _, part in found.pairs], sizes)
+
+    def test_very_many_literals(self):
+        """Each literal could stand in two places, and the last one could only if all others moved on."""
+        count = 1100
+        names = ["c" + str(index) for index in range(count + 1)]
+        line = Vocabulary(("s",), [(name, (), "s") for name in names], [("p", ("s",))])
+        ones = [literal_of(True, (name,), ("X" + str(index), "s")) for index, name in enumerate(names)]
+        twos = [literal_of(True, (one,), (two,)) for one, two in zip(names, names[1:])]
+        fact = (True, ("p", (names[0],)), TRUTH)
+        self.assertIsNone(inside(line, clause_of(ones), clause_of(twos + [fact])))
+        self.assertIs(are_variants(clause_of(ones), clause_of(twos + [fact])), False)
 
 
 class TestVariants(unittest.TestCase):
@@ -205,6 +235,19 @@ class TestVariants(unittest.TestCase):
         self.check(False, clause(lit(next_of(X))), clause(lit(X)))
         self.check(False, clause(past(X, Y), past(Y, Z)), clause(past(X, Y), past(X, Z)))
         self.check(False, clause(same(X, ROOT)), clause(same(LEAF, ROOT)))
+
+    def test_deep_terms(self):
+        """The answer is looked for among terms that were made apart, and that differ at the end only."""
+        deep, again, less = deep_term(20000), deep_term(20000), deep_term(20000, LEAF)
+        for one, two, wanted in (
+            (clause(same(deep, less)), clause(same(less, again)), True), (clause(same(deep, less)), clause(same(deep, again)), False),
+            (clause(lit(deep)), clause(lit(again)), True), (clause(lit(deep)), clause(lit(less)), False),
+            (clause(past(X, deep)), clause(past(Y, again)), True), (clause(past(X, deep)), clause(past(less, again)), False),
+            (clause(lit(deep_term(20000, X))), clause(lit(deep_term(20000, Y))), True),
+            (clause(past(X, deep_term(20000, Y))), clause(past(X, deep_term(20000, X))), False),
+        ):
+            self.assertIs(are_variants(one, two), wanted)
+            self.assertIs(are_variants(two, one), wanted)
 
     def test_renamed_clauses(self):
         chance = random.Random(11)

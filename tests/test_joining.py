@@ -202,6 +202,36 @@ class TestTrimmed(unittest.TestCase):
             self.assertEqual(made[-3:-1], (one, two))
             self.assertNotEqual(made[-1][1], made[-1][4])
 
+    def test_steps_whose_items_look_like_others(self):
+        """Strings may be brackets and digits, and there may be any tuples in a step."""
+        items = (
+            ("(", "a", ")"), (("a",),), ("()",), ((), "a"), ("a", ()), (("a", ()),), (("a",), ()), ((("a",),),), ("(", "a"),
+            ("a", ")"), (("a", ")", "("),), (("a", ")"), "("), ("1", "a"), (1, "a"), ((1,), "a"), ((1, "a"),), (None, "a"),
+            ("None", "a"), (("", "a"),),
+        )
+        steps = [("same",) + row for row in items]
+        for one in steps:
+            for two in steps:
+                self.trims([one, two], [two])
+                joined = ("replace", 1, 0, False, 0, 0, (0,))
+                wanted = [one, ("replace", 0) + joined[2:]] if one == two else [one, two, joined]
+                self.trims([one, two, joined], wanted)
+
+    def test_steps_with_too_few_items(self):
+        """Where no number of a line stands, no line is used."""
+        for short in (
+            (), ("given",), ("fill",), ("more",), ("drop",), ("replace",), ("same",), ("snow",), ("fill", None), ("more", True, 0),
+            ("drop", "0", 0), ("drop", (0,), 0), ("replace", None, 0, False, "1", 0, ()), ((), 0), (("drop",), 0, 0), (None, 0), (1, 0),
+        ):
+            self.trims([short], [short])
+            self.trims([short, short], [short])
+            self.trims([("given", 0), short], [short])
+            self.trims([short, ("given", 0)], [("given", 0)])
+            self.trims([("given", 0), ("given", 1), short, ("fill", 2, ())], [short, ("fill", 0, ())])
+        self.trims([(), ("given", 0), ("replace", 1)], [("given", 0), ("replace", 0)])
+        self.trims([(), ("given", 0), ("replace", 1, 0, False)], [("given", 0), ("replace", 0, 0, False)])
+        self.trims([("given", 2), ("given", 0), ("replace", None, 0, True, 1)], [("given", 0), ("replace", None, 0, True, 0)])
+
     def test_steps_that_are_not_used(self):
         self.trims([("given", 0), ("given", 1)], [("given", 1)])
         self.trims(

@@ -8,9 +8,15 @@ from claimworlds.errors import BadClause, NoClause, NoSelection, NotWaiting, Run
 from claimworlds.insides import are_variants
 from claimworlds.orders import Order
 from claimworlds.runs import Run, played_run
-from land import A, B, LAND, PLAIN, TRUTH, clause, clauses
+from land import A, B, LAND, PLAIN, TRUTH, X, clause, clauses, f
 from plainruns import PlainRun
 from runchecks import check_lists, check_run, state_of, texts
+
+
+def deep_term(depth, made):
+    for _ in range(depth):
+        made = f(made)
+    return made
 
 
 def run_of(*lines, selection="none", order=PLAIN, **bounds):
@@ -88,6 +94,23 @@ class TestBeginning(RunCase):
         run.take(1)
         self.statuses(run, "taken", "taken")
         self.assertEqual(run.word, "ended")
+
+    def test_deep_clauses(self):
+        """Clauses that the program made may be nested deeper than what is passed otherwise."""
+        def p_of(part):
+            return (True, ("p", part), TRUTH)
+
+        def pair(one, two):
+            return (p_of(one), (True, ("q", two, B), TRUTH))
+
+        deep, again, other = [deep_term(2000, name) for name in (A, A, B)]
+        for bad in ((p_of(deep), p_of(again)), (p_of(other), p_of(deep)), ((True, deep, other),)):
+            with self.assertRaises(BadClause) as caught:
+                Run(LAND, PLAIN, "none", [(p_of(deep), p_of(other)), ((True, other, deep),), bad])
+            self.assertEqual(caught.exception.index, 2)
+        run = Run(LAND, PLAIN, "none", [pair(X, X), pair(deep, other), pair(deep, again)])
+        self.assertEqual([run.take(number) for number in range(3)], [(), (), ()])
+        self.statuses(run, "taken", "taken", "thrown")
 
 
 class TestWords(RunCase):
